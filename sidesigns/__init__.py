@@ -1,0 +1,1 @@
+"""Sidesigns: rounds and cuts told by signs."""

@@ -1,0 +1,1 @@
+"""Sign rows and lots of rows."""

@@ -1,0 +1,266 @@
+"""Sign rows and lots of rows."""
+
+from sidesigns.errors import InvalidLot, InvalidNumber, InvalidOperation, InvalidRow, TooMany
+from sidesigns.integers import is_between
+from sidesigns.rows.codes import LOW, both_signs, code_of, mask_of, row_of, turned_code
+from sidesigns.rows.signs import turned_signs
+from sidesigns.things import is_ascending
+
+MAX_THINGS = 9
+MAX_LAYINGS = 7000
+MAX_UPRIGHT = 7
+
+
+def is_row(value, many):
+    """Whether the value is a sign row with so many signs."""
+    return isinstance(value, str) and len(value) == many and value.strip("+-0") == ""
+
+
+def check_many(many):
+    """Refuse what is no number of things."""
+    if not is_between(many, 0, MAX_THINGS):
+        raise InvalidNumber(many)
+
+
+def check_row(row, many):
+    """Refuse what is no sign row with so many signs."""
+    if not is_row(row, many):
+        raise InvalidRow("not a sign row with a sign for each thing")
+
+
+def check_things(things, many):
+    """Refuse what is no ascending tuple of things below their number."""
+    if not is_ascending(things, many):
+        raise InvalidOperation("not an ascending tuple of things")
+
+
+def check_lot(lot):
+    """Refuse what is no lot of rows."""
+    if not isinstance(lot, Lot):
+        raise InvalidLot("not a lot of rows")
+
+
+def _check_any_row(row):
+    if not isinstance(row, str) or len(row) > MAX_THINGS:
+        raise InvalidRow("not a sign row")
+    check_row(row, len(row))
+
+
+def _check_rows(one, other):
+    _check_any_row(one)
+    check_row(other, len(one))
+
+
+def turned(row, things=None):
+    """The row, turned at the told things, or at all."""
+    _check_any_row(row)
+    whole = turned_signs(row)
+    if things is None:
+        return whole
+    check_things(things, len(row))
+    return "".join([whole[at] if at in things else sign for at, sign in enumerate(row)])
+
+
+def laid_over(one, other):
+    """The first row laid over the second one."""
+    _check_rows(one, other)
+    return "".join([other[at] if sign == "0" else sign for at, sign in enumerate(one)])
+
+
+def are_apart_at(one, other, thing):
+    """Whether two rows are apart at a thing."""
+    return one[thing] != "0" and other[thing] != "0" and one[thing] != other[thing]
+
+
+def apart(one, other):
+    """The things at which the rows are apart."""
+    _check_rows(one, other)
+    return tuple([thing for thing in range(len(one)) if are_apart_at(one, other, thing)])
+
+
+def is_upright(one, other):
+    """Whether the rows are upright to each other."""
+    _check_rows(one, other)
+    return _is_code_upright(code_of(one), code_of(other))
+
+
+def _is_code_upright(one, other):
+    # Upright rows agree somewhere exactly if they are apart somewhere.
+    return (one & other == 0) == (one & turned_code(other) == 0)
+
+
+def things_of(row):
+    """The things that the row has."""
+    _check_any_row(row)
+    return tuple([thing for thing, sign in enumerate(row) if sign != "0"])
+
+
+def zeros_of(row):
+    """The things that the row has not."""
+    _check_any_row(row)
+    return tuple([thing for thing, sign in enumerate(row) if sign == "0"])
+
+
+def signs_at(row, things):
+    """The row of the signs at the told things, in order."""
+    _check_any_row(row)
+    check_things(things, len(row))
+    return "".join([row[thing] for thing in things])
+
+
+def spread(row, things, many):
+    """The row of so many signs with those of a row at the told things, and else "0"."""
+    _check_any_row(row)
+    check_things(things, MAX_THINGS)
+    if len(things) != len(row):
+        raise InvalidOperation("not as many things as signs")
+    if not is_between(many, 0, MAX_THINGS) or not is_ascending(things, many):
+        raise InvalidNumber(many)
+    signs = ["0"] * many
+    for at, thing in enumerate(things):
+        signs[thing] = row[at]
+    return "".join(signs)
+
+
+def all_rows(many):
+    """Yield all rows of so many signs, ascending."""
+    check_many(many)
+    rows = [""]
+    for _ in range(many):
+        rows = [row + sign for row in rows for sign in "+-0"]
+    yield from rows
+
+
+def _least_masks(masks):
+    """Those of some masks other than 0 that have no other one of them within."""
+    return [mask for mask in masks if not _has_within(mask, masks)]
+
+
+def _has_within(mask, masks):
+    for other in masks:
+        if other != mask and other & mask == other:
+            return True
+    return False
+
+
+def _laid_codes(codes):
+    """The codes of all layings of rows, with that of the zero row."""
+    found = {0: True}
+    waiting = [0]
+    # A row laid under another one shows only where the other one has "0", so
+    # rows that look alike there are laid once.
+    showing = {}
+    while len(waiting) > 0:
+        code = waiting.pop()
+        free = both_signs(LOW ^ mask_of(code))
+        if free not in showing:
+            showing[free] = list({free & under: True for under in codes})
+        for part in showing[free]:
+            laid = code | part
+            if laid not in found:
+                found[laid] = True
+                waiting.append(laid)
+        if len(found) > MAX_LAYINGS:
+            raise TooMany(MAX_LAYINGS)
+    return list(found)
+
+
+def _is_upright_to_all(code, others):
+    for other in others:
+        if not _is_code_upright(code, other):
+            return False
+    return True
+
+
+class Lot:
+    """A lot of rows with equally many signs."""
+
+    def __init__(self, many, rows=()):
+        check_many(many)
+        if not isinstance(rows, tuple) or not all([is_row(row, many) for row in rows]):
+            raise InvalidLot("not a tuple of rows with so many signs")
+        self._many = many
+        self._known = {row: True for row in rows}
+        self._rows = tuple(sorted(list(self._known)))
+
+    @property
+    def many(self):
+        """The number of signs of each row."""
+        return self._many
+
+    @property
+    def rows(self):
+        """The ascending tuple of the rows."""
+        return self._rows
+
+    @property
+    def is_even(self):
+        """Whether with each row the turned row is there."""
+        return all([turned(row) in self._known for row in self._rows])
+
+    def __len__(self):
+        return len(self._rows)
+
+    def __iter__(self):
+        return iter(self._rows)
+
+    def __contains__(self, x):
+        return isinstance(x, str) and x in self._known
+
+    def __eq__(self, other):
+        return isinstance(other, Lot) and self._many == other._many and self._rows == other._rows
+
+    def __str__(self):
+        return f"{len(self._rows)} rows of {self._many} signs"
+
+    def __or__(self, other):
+        if not isinstance(other, Lot):
+            return NotImplemented
+        _check_alike(self, other)
+        return Lot(self._many, self._rows + other._rows)
+
+    def __and__(self, other):
+        if not isinstance(other, Lot):
+            return NotImplemented
+        _check_alike(self, other)
+        return Lot(self._many, tuple([row for row in self._rows if row in other._known]))
+
+    def __sub__(self, other):
+        if not isinstance(other, Lot):
+            return NotImplemented
+        _check_alike(self, other)
+        return Lot(self._many, tuple([row for row in self._rows if row not in other._known]))
+
+    def least(self):
+        """The lot of the least rows: but for the zero row none lies within another."""
+        masks = {row: mask_of(code_of(row)) for row in self._rows}
+        kinds = {mask: True for mask in masks.values() if mask != 0}
+        least = _least_masks(list(kinds))
+        return Lot(self._many, tuple([row for row in self._rows if masks[row] in least]))
+
+    def with_turned(self):
+        """The lot with all turned rows."""
+        return Lot(self._many, self._rows + tuple([turned(row) for row in self._rows]))
+
+    def turned_at(self, things):
+        """The lot of all rows turned at the told things."""
+        check_things(things, self._many)
+        return Lot(self._many, tuple([turned(row, things) for row in self._rows]))
+
+    def layings(self):
+        """The lot of the zero row and of all layings of rows of the lot."""
+        codes = _laid_codes([code_of(row) for row in self._rows])
+        return Lot(self._many, tuple([row_of(code, self._many) for code in codes]))
+
+    def uprights(self):
+        """The lot of all rows that are upright to each row of the lot."""
+        if self._many > MAX_UPRIGHT:
+            raise TooMany(MAX_UPRIGHT)
+        codes = [code_of(row) for row in self._rows]
+        found = [row for row in all_rows(self._many) if _is_upright_to_all(code_of(row), codes)]
+        return Lot(self._many, tuple(found))
+
+
+def _check_alike(one, other):
+    if one.many != other.many:
+        raise InvalidLot("not a lot of rows with equally many signs")

@@ -1,0 +1,1 @@
+"""Lots of rounds and the systems that they tell."""

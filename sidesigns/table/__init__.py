@@ -1,0 +1,1 @@
+"""Tables of integers and the signs that they tell."""

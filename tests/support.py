@@ -1,0 +1,184 @@
+"""What several tests share: values of many kinds, wrong calls, and small worlds."""
+
+from itertools import combinations, product
+
+from sidesigns.errors import InvalidNumber, Refused, TooMany
+from sidesigns.rows.rows import Lot
+from sidesigns.table.tables import Table
+
+DEEP = ((((((((),),),),),),),)
+
+# Values of every kind that [0.4] names. Each call picks those that are wrong for it.
+POOL = (
+    None, True, False, 0, 1, 2, 3, 4, 8, 9, 10, -1, 10 ** 59, 10 ** 60, -10 ** 60, 10 ** 99,
+    "", "+", "0", "+-0", "-+0", "0+-", "+++", "0--", "++++", "+" * 10, "0" * 3000, "x", "+-x", "x-0", "+x0", "+-0 ", " +-0", "+\n0",
+    "+-0\n", "+-1", "111", "abc", "\n",
+    (), (0,), (1,), (2,), (3,), (0, 1), (1, 2), (0, 1, 2), (1, 0), (0, 0), (1, 1), (-1, 0), (0, 9), (0, 10 ** 60),
+    (True,), (False,), (0, True), (False, True), (None,), ("0",), ("+",), ("+-0",), ("+-0", "0"), ("+-0", None),
+    ("+-0", 5), ("+-0", ("0+-",)), ((0,),), ((),), ((1, 2), (3, 4)), ((1, True), (0, 1)), ((1, 2), [0, 1]), DEEP,
+    [], [0], [0, 1], ["+-0"], [[1, 2], [3, 4]], ([1, 2], [3, 4]), {}, {0: 1}, {"+-0": True}, {"a": [(), {}]},
+    Lot(0), Lot(3), Lot(3, ("+-0", "-+0")), Table(0, ()), Table(3, ((1, 2, 3),)),
+)
+
+
+def is_plain(value):
+    return isinstance(value, int) and not isinstance(value, bool)
+
+
+def is_between(value, least, most):
+    return is_plain(value) and least <= value <= most
+
+
+def is_row(value, many=None):
+    if not isinstance(value, str) or not all(sign in ("+", "-", "0") for sign in value):
+        return False
+    return len(value) <= 9 if many is None else len(value) == many
+
+
+def is_things(value, many):
+    if not isinstance(value, tuple) or not all(is_between(thing, 0, many - 1) for thing in value):
+        return False
+    return all(one < other for one, other in zip(value, value[1:]))
+
+
+def wrong(is_right):
+    """The values of the pool that are not right."""
+    return [value for value in POOL if not is_right(value)]
+
+
+def error_of(call):
+    """The error that a call raises; None if it raises none."""
+    try:
+        call()
+    except Exception as error:
+        return error
+    return None
+
+
+def told_by(error):
+    """The kind of an error and what it keeps."""
+    if isinstance(error, InvalidNumber):
+        return (InvalidNumber, error.value)
+    if isinstance(error, Refused):
+        return (Refused, error.reason)
+    if isinstance(error, TooMany):
+        return (TooMany, error.limit)
+    return (error.__class__, None)
+
+
+def keeps(error, kind, value):
+    """Whether an error is just of this kind, and keeps the wrong value if it keeps one."""
+    if error.__class__ is not kind:
+        return False
+    return kind is not InvalidNumber or error.value is value
+
+
+class Wrong:
+    """A call with right arguments, and what is wrong for each of them."""
+
+    def __init__(self, call, right, kinds, named=()):
+        self.call = call
+        self.right = right
+        # For each parameter: the error, and the test for what is right.
+        self.kinds = kinds
+        self.named = named
+
+    def _run(self, told):
+        split = len(told) - len(self.named)
+        result = self.call(*told[:split], **dict(zip(self.named, told[split:])))
+        if hasattr(result, "__next__"):
+            next(result)
+
+    def check(self, case):
+        """Each wrong argument, and each two of them: the first one decides."""
+        self._run(self.right)
+        for at, (kind, is_right) in enumerate(self.kinds):
+            values = wrong(is_right)
+            case.assertGreater(len(values), 20)
+            for value in values:
+                self._check_one(case, at, kind, value)
+        for one, other in combinations(range(len(self.kinds)), 2):
+            self._check_two(case, one, other)
+
+    def _check_one(self, case, at, kind, value):
+        told = list(self.right)
+        told[at] = value
+        error = error_of(lambda: self._run(told))
+        case.assertTrue(keeps(error, kind, value), (self.call, told, error))
+
+    def _check_two(self, case, one, other):
+        kind, is_right = self.kinds[one]
+        for value, second in product(wrong(is_right)[::7], wrong(self.kinds[other][1])[::5]):
+            told = list(self.right)
+            told[one], told[other] = value, second
+            error = error_of(lambda: self._run(told))
+            case.assertTrue(keeps(error, kind, value), (self.call, told, error))
+
+
+def rows_of(many):
+    return ["".join(signs) for signs in product("+-0", repeat=many)]
+
+
+def lots_of_rows(many, sizes):
+    """All lots of so many rows of so many signs."""
+    return [Lot(many, rows) for size in sizes for rows in combinations(rows_of(many), size)]
+
+
+def opposite(row):
+    return "".join({"+": "-", "-": "+", "0": "0"}[sign] for sign in row)
+
+
+def has(row):
+    return {thing for thing, sign in enumerate(row) if sign != "0"}
+
+
+def apart_at(one, other):
+    return {thing for thing in has(one) & has(other) if one[thing] != other[thing]}
+
+
+def are_upright(one, other):
+    common = has(one) & has(other)
+    parted = apart_at(one, other)
+    return not common or (bool(parted) and parted != common)
+
+
+def over(one, other):
+    return "".join(second if first == "0" else first for first, second in zip(one, other))
+
+
+def least_rows(rows):
+    """The rows with things within which no other row lies but those with the same things."""
+    own = [row for row in rows if has(row)]
+    return sorted(row for row in own if not any(has(other) < has(row) for other in own))
+
+
+def uprights_to(rows, many):
+    return [row for row in rows_of(many) if all(are_upright(row, other) for other in rows)]
+
+
+def all_layings(rows, many):
+    found = {"0" * many}
+    while True:
+        more = found | {over(one, other) for one in found for other in rows}
+        if more == found:
+            return sorted(found)
+        found = more
+
+
+def sign(value):
+    return "+" if value > 0 else "-" if value < 0 else "0"
+
+
+def signs_of(values):
+    return "".join(sign(value) for value in values)
+
+
+def small_tables(many, height, least, most):
+    """All tables of so many things and rows with integers from the least to the most."""
+    rows = list(product(range(least, most + 1), repeat=many))
+    return [Table(many, chosen) for chosen in product(rows, repeat=height)]
+
+
+def curve(many, rank):
+    """The table with the rows 1, x, x * x, .. ."""
+    return Table(many, tuple(tuple(x ** power for x in range(many)) for power in range(rank)))

@@ -1,0 +1,158 @@
+"""The head of the interface, and the conventions that hold for all modules: [0.1] to [0.7]."""
+
+import importlib
+import inspect
+import unittest
+
+from sidesigns.errors import InvalidNumber, InvalidOperation, InvalidRow, InvalidTable
+from sidesigns.rows.rows import Lot, all_rows, laid_over, signs_at, spread, turned
+from sidesigns.system.rounds import bases_of, cuts_of, is_rounds_paper, rank_of, rounds_paper, taken_out
+from sidesigns.table.tables import Table, determinant
+from support import error_of, told_by
+
+FUNCTIONS = {
+    "sidesigns.rows.rows": {
+        "turned": "row, things=None", "laid_over": "one, other", "apart": "one, other", "is_upright": "one, other",
+        "things_of": "row", "zeros_of": "row", "signs_at": "row, things", "spread": "row, things, many",
+        "all_rows": "many"},
+    "sidesigns.table.tables": {"determinant": "rows"},
+    "sidesigns.system.rounds": {
+        "rounds_paper": "lot", "is_rounds_paper": "lot, value", "taken_out": "lot, one, other, thing, *, kept=None",
+        "bases_of": "lot", "rank_of": "lot", "cuts_of": "lot"},
+}
+METHODS = {
+    ("sidesigns.rows.rows", "Lot"): {
+        "__init__": "self, many, rows=()", "least": "self", "with_turned": "self", "turned_at": "self, things",
+        "layings": "self", "uprights": "self"},
+    ("sidesigns.table.tables", "Table"): {
+        "__init__": "self, many, rows", "seen": "self, weights", "round_sum": "self, row", "cut_weights": "self, row",
+        "upright_table": "self", "is_alike": "self, other"},
+}
+PROPERTIES = {
+    ("sidesigns.rows.rows", "Lot"): ("many", "rows", "is_even"),
+    ("sidesigns.table.tables", "Table"): ("many", "rows", "rank", "signs", "rounds", "cuts"),
+}
+OPERATORS = {
+    ("sidesigns.rows.rows", "Lot"): ("__len__", "__iter__", "__contains__", "__eq__", "__or__", "__and__", "__sub__",
+                                     "__str__"),
+    ("sidesigns.table.tables", "Table"): ("__len__", "__getitem__", "__iter__", "__eq__", "__str__"),
+}
+CONSTANTS = {
+    "sidesigns.rows.rows": {"MAX_THINGS": 9, "MAX_LAYINGS": 7000, "MAX_UPRIGHT": 7},
+    "sidesigns.table.tables": {"MAX_ROWS": 9},
+}
+
+
+def member(place):
+    module, name = place
+    return getattr(importlib.import_module(module), name)
+
+
+class NamesTest(unittest.TestCase):
+    def test_functions(self):
+        for name, functions in FUNCTIONS.items():
+            module = importlib.import_module(name)
+            for function, expected in functions.items():
+                call = getattr(module, function)
+                self.assertTrue(inspect.isfunction(call))
+                self.assertEqual((call.__module__, call.__name__), (name, function))
+                self.assertEqual(str(inspect.signature(call)), f"({expected})")
+
+    def test_methods(self):
+        for place, methods in METHODS.items():
+            cls = member(place)
+            self.assertEqual((cls.__module__, cls.__name__), place)
+            for name, expected in methods.items():
+                self.assertEqual(str(inspect.signature(vars(cls)[name])), f"({expected})")
+            for name in OPERATORS[place]:
+                self.assertIn(name, vars(cls))
+
+    def test_properties(self):
+        objects = {"Lot": Lot(2), "Table": Table(2, ())}
+        for place, names in PROPERTIES.items():
+            for name in names:
+                self.assertIn(name, vars(member(place)))
+                self.assertFalse(callable(getattr(objects[place[1]], name)))
+
+    def test_constants(self):
+        for name, constants in CONSTANTS.items():
+            for constant, value in constants.items():
+                self.assertEqual(getattr(importlib.import_module(name), constant), value)
+
+
+class ConventionsTest(unittest.TestCase):
+    def test_integers_of_sixty_digits(self):
+        """[0.1]: sixty digits are the most that is passed."""
+        for most in (10 ** 60 - 1, 1 - 10 ** 60):
+            self.assertEqual(determinant(((most,),)), most)
+            self.assertEqual(Table(1, ((most,),)).rank, 1)
+            self.assertEqual(Table(1, ((2,),)).seen((most,)), "+" if most > 0 else "-")
+        for long in (10 ** 60, -10 ** 60, 10 ** 99):
+            for call, kind in ((lambda: determinant(((long,),)), InvalidTable), (lambda: Table(1, ((long,),)), InvalidTable),
+                               (lambda: Table(1, ((2,),)).seen((long,)), InvalidOperation),
+                               (lambda: turned("+", (long,)), InvalidOperation),
+                               (lambda: Lot(2).turned_at((long,)), InvalidOperation)):
+                self.assertEqual(error_of(call).__class__, kind)
+            for call in (lambda: Lot(long), lambda: Table(long, ()), lambda: spread("+", (0,), long),
+                         lambda: next(all_rows(long)), lambda: Table(1, ((1,),))[long]):
+                self.assertEqual(told_by(error_of(call)), (InvalidNumber, long))
+
+    def test_true_and_false_are_no_integers(self):
+        """[0.1], in every place that takes an integer."""
+        for value in (True, False):
+            for call in (lambda: Lot(value), lambda: Table(value, ()), lambda: next(all_rows(value)),
+                         lambda: spread("", (), value), lambda: Table(1, ((1,), (2,)))[value],
+                         lambda: taken_out(Lot(2, ("++", "--")), "++", "--", value),
+                         lambda: taken_out(Lot(2, ("++", "--")), "++", "--", 0, kept=value)):
+                error = error_of(call)
+                self.assertEqual(told_by(error), (InvalidNumber, value))
+                self.assertIs(error.value, value)
+            for call, kind in ((lambda: determinant(((value,),)), InvalidTable), (lambda: Table(1, ((value,),)), InvalidTable),
+                               (lambda: turned("++", (value,)), InvalidOperation),
+                               (lambda: signs_at("++", (value,)), InvalidOperation),
+                               (lambda: spread("+", (value,), 3), InvalidOperation),
+                               (lambda: Lot(2).turned_at((value,)), InvalidOperation),
+                               (lambda: Table(1, ((1,),)).seen((value,)), InvalidOperation)):
+                self.assertEqual(error_of(call).__class__, kind)
+
+    def test_lists_in_the_place_of_tuples(self):
+        for call, kind in ((lambda: turned("++", [0]), InvalidOperation), (lambda: signs_at("++", []), InvalidOperation),
+                           (lambda: spread("+", [0], 3), InvalidOperation), (lambda: laid_over(["+"], "+"), InvalidRow),
+                           (lambda: Table(1, [(1,)]), InvalidTable), (lambda: Table(1, ([1],)), InvalidTable),
+                           (lambda: determinant([(1,)]), InvalidTable), (lambda: determinant([]), InvalidTable),
+                           (lambda: Table(1, ((1,),)).seen([1]), InvalidOperation),
+                           (lambda: Lot(1).turned_at([]), InvalidOperation)):
+            self.assertEqual(error_of(call).__class__, kind)
+
+    def test_arguments_stay(self):
+        """[0.2]: what can change and is judged or refused is not changed."""
+        lists = [["+-0"], [[1, 2]], {"a": [1]}, [("rounds",)]]
+        copies = [["+-0"], [[1, 2]], {"a": [1]}, [("rounds",)]]
+        lot, table = Lot(3, ("+-0", "-+0")), Table(3, ((1, 2, 3),))
+        for value in lists:
+            is_rounds_paper(lot, value)
+            is_rounds_paper(lot, ("within", value, value))
+            for call in (lambda: Lot(3, value), lambda: Table(3, value), lambda: turned("+", value),
+                         lambda: table.seen(value), lambda: lot | value, lambda: value in lot, lambda: lot == value):
+                error_of(call)
+        self.assertEqual(lists, copies)
+        self.assertEqual((lot.rows, table.rows), (("+-0", "-+0"), ((1, 2, 3),)))
+
+    def test_equal_calls_give_equal_results(self):
+        calls = (lambda: turned("+-0", (1,)), lambda: list(all_rows(4)), lambda: Lot(3, ("+-0", "0+-")).layings(),
+                 lambda: Table(4, ((1, 2, 3, 4), (5, 6, 7, 9))).upright_table(), lambda: rounds_paper(Lot(2, ("+0", "0+"))),
+                 lambda: bases_of(Lot(3, ("+-0", "-+0"))), lambda: cuts_of(Lot(3, ("+-0", "-+0"))),
+                 lambda: rank_of(Lot(3)))
+        for call in calls:
+            self.assertEqual(call(), call())
+
+    def test_results_are_tuples(self):
+        table = Table(3, ((1, 2, 3), (2, 4, 6)))
+        for value in (table.rows, table.upright_table().rows, table.upright_table().rows[0], table.round_sum("+-0"),
+                      table.cut_weights("+++"), bases_of(table.rounds), bases_of(table.rounds)[0],
+                      rounds_paper(table.rounds), Lot(2, ("+0",)).rows):
+            self.assertIs(value.__class__, tuple)
+
+
+if __name__ == "__main__":
+    unittest.main()
