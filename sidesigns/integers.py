@@ -14,3 +14,8 @@ def is_between(value, least, most):
 def is_short(value):
     """Whether the value is an integer of at most sixty digits."""
     return is_integer(value) and abs(value) < 10 ** 60
+
+
+def are_integers(value, size):
+    """Whether the value is a tuple of so many integers of any length."""
+    return isinstance(value, tuple) and len(value) == size and all([is_integer(one) for one in value])

@@ -3,7 +3,9 @@
 from itertools import combinations, product
 
 from sidesigns.errors import InvalidNumber, Refused, TooMany
+from sidesigns.best.programs import Program
 from sidesigns.rows.rows import Lot
+from sidesigns.system.systems import System
 from sidesigns.table.tables import Table
 
 DEEP = ((((((((),),),),),),),)
@@ -18,6 +20,10 @@ POOL = (
     ("+-0", 5), ("+-0", ("0+-",)), ((0,),), ((),), ((1, 2), (3, 4)), ((1, True), (0, 1)), ((1, 2), [0, 1]), DEEP,
     [], [0], [0, 1], ["+-0"], [[1, 2], [3, 4]], ([1, 2], [3, 4]), {}, {0: 1}, {"+-0": True}, {"a": [(), {}]},
     Lot(0), Lot(3), Lot(3, ("+-0", "-+0")), Table(0, ()), Table(3, ((1, 2, 3),)),
+    System.free(0), System.free(3), System(Lot(3, ("+-0", "-+0"))), Program(System.free(2), 0, 1),
+    "r", "rsa", "srr", "ao", "acos", "roc", "co", (((0,), ()),), ((1, 0), (1,)), ((), ()), ((0, 1), [0]), ((0, 1), (True,)),
+    ("pair",), ("views",), ("right",), ("member",), ("round", "+-0"), ("cut", "00+"), ((0, "+"),), ((0, "+"), (0, "-")),
+    ((1, 2), (0, 2), (0, 1)), {"+": "-", "-": "+"},
 )
 
 

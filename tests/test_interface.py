@@ -5,8 +5,10 @@ import inspect
 import unittest
 
 from sidesigns.errors import InvalidNumber, InvalidOperation, InvalidRow, InvalidTable
+from sidesigns.best.programs import Program
 from sidesigns.rows.rows import Lot, all_rows, laid_over, signs_at, spread, turned
 from sidesigns.system.rounds import bases_of, cuts_of, is_rounds_paper, rank_of, rounds_paper, taken_out
+from sidesigns.system.systems import System
 from sidesigns.table.tables import Table, determinant
 from support import error_of, told_by
 
@@ -19,7 +21,35 @@ FUNCTIONS = {
     "sidesigns.system.rounds": {
         "rounds_paper": "lot", "is_rounds_paper": "lot, value", "taken_out": "lot, one, other, thing, *, kept=None",
         "bases_of": "lot", "rank_of": "lot", "cuts_of": "lot"},
+    "sidesigns.system.judging": {
+        "views_paper": "lot", "regions_paper": "lot", "signs_paper": "many, rank, text", "is_views_paper": "lot, value",
+        "is_regions_paper": "lot, value", "is_signs_paper": "many, rank, text, value", "system_of_views": "lot",
+        "system_of_regions": "lot", "system_of_signs": "many, rank, text"},
+    "sidesigns.system.paintings": {
+        "painted": "system, painting", "is_painted": "system, painting, value", "paintings": "many, *, letters='acos'",
+        "pair_paper": "rounds, cuts", "is_pair_paper": "rounds, cuts, value", "in_table": "table, painting",
+        "is_in_table": "table, painting, value"},
+    "sidesigns.system.forms": {
+        "led": "system, order, things", "led_row": "row, order, things", "back_change": "change",
+        "joined_changes": "change, other", "parts_of": "system", "form_of": "system", "least_form": "system",
+        "form_paper": "one, other", "is_form_paper": "one, other, value", "own_changes": "system", "own_count": "system"},
+    "sidesigns.region.regions": {
+        "two_numbers": "system", "flat_sums": "system", "region_count": "system", "bounded_count": "system",
+        "bounded_regions": "system, thing", "walls": "system, region", "parting_things": "system, one, other",
+        "steps": "system, one, other", "is_steps": "system, one, other, value", "region_web": "system",
+        "system_of_web": "neighbours"},
+    "sidesigns.hull.hulls": {
+        "hull": "system, things", "corners": "system, things", "hull_paper": "system, things, thing",
+        "is_hull_paper": "system, things, thing, value", "convex_lots": "system", "free_lots": "system",
+        "free_sums": "system", "inner_things": "system", "faces": "system", "face_counts": "system",
+        "holders": "system, things, thing", "parted": "system, one, other", "is_parted": "system, one, other, value"},
+    "sidesigns.best.programs": {"table_answer": "table, far, goal"},
+    "sidesigns.more.putting": {
+        "lines_of": "system", "line_ring": "system, line", "line_paper": "system, signs",
+        "is_line_paper": "system, signs, value", "put_in": "system, signs", "signs_of_thing": "system, thing",
+        "by_steps": "system, steps", "through": "system, one, other", "all_ways": "system"},
 }
+GENERATORS = {"all_rows", "paintings", "own_changes", "convex_lots", "free_lots", "all_ways"}
 METHODS = {
     ("sidesigns.rows.rows", "Lot"): {
         "__init__": "self, many, rows=()", "least": "self", "with_turned": "self", "turned_at": "self, things",
@@ -27,19 +57,38 @@ METHODS = {
     ("sidesigns.table.tables", "Table"): {
         "__init__": "self, many, rows", "seen": "self, weights", "round_sum": "self, row", "cut_weights": "self, row",
         "upright_table": "self", "is_alike": "self, other"},
+    ("sidesigns.system.systems", "System"): {
+        "__init__": "self, rounds", "views": "self", "regions": "self", "sign": "self, order", "round_of": "self, base, thing",
+        "cut_of": "self, base, thing", "rank_of": "self, things", "flat_of": "self, things", "flats": "self",
+        "turned_at": "self, things", "left_out": "self, things", "shrunk": "self, things", "renamed": "self, order"},
+    ("sidesigns.best.programs", "Program"): {
+        "__init__": "self, system, far, goal", "feasible": "self", "answer": "self", "is_answer": "self, value",
+        "starts": "self", "crossings": "self, base", "opposite": "self"},
 }
+CLASS_METHODS = {("sidesigns.system.systems", "System"): {"of_cuts": "cuts", "of_table": "table", "free": "many"}}
 PROPERTIES = {
     ("sidesigns.rows.rows", "Lot"): ("many", "rows", "is_even"),
     ("sidesigns.table.tables", "Table"): ("many", "rows", "rank", "signs", "rounds", "cuts"),
+    ("sidesigns.system.systems", "System"): ("many", "rank", "rounds", "cuts", "signs", "bases", "loops", "pillars", "alike",
+                                             "is_simple", "is_open", "is_general"),
+    ("sidesigns.best.programs", "Program"): ("system", "far", "goal", "sides"),
 }
 OPERATORS = {
     ("sidesigns.rows.rows", "Lot"): ("__len__", "__iter__", "__contains__", "__eq__", "__or__", "__and__", "__sub__",
                                      "__str__"),
     ("sidesigns.table.tables", "Table"): ("__len__", "__getitem__", "__iter__", "__eq__", "__str__"),
+    ("sidesigns.system.systems", "System"): ("__invert__", "__add__", "__eq__", "__len__", "__str__"),
+    ("sidesigns.best.programs", "Program"): ("__eq__", "__str__"),
 }
 CONSTANTS = {
     "sidesigns.rows.rows": {"MAX_THINGS": 9, "MAX_LAYINGS": 7000, "MAX_UPRIGHT": 7},
     "sidesigns.table.tables": {"MAX_ROWS": 9},
+    "sidesigns.system.systems": {"MAX_VIEWS": 7000},
+    "sidesigns.system.judging": {"MAX_JUDGED": 1500},
+    "sidesigns.system.paintings": {"MAX_PAIR_ROWS": 600},
+    "sidesigns.system.forms": {"MAX_FORMED": 6},
+    "sidesigns.region.regions": {"MAX_REGIONS": 512},
+    "sidesigns.more.putting": {"MAX_PAIRS": 15},
 }
 
 
@@ -57,6 +106,7 @@ class NamesTest(unittest.TestCase):
                 self.assertTrue(inspect.isfunction(call))
                 self.assertEqual((call.__module__, call.__name__), (name, function))
                 self.assertEqual(str(inspect.signature(call)), f"({expected})")
+                self.assertIs(inspect.isgeneratorfunction(call), function in GENERATORS)
 
     def test_methods(self):
         for place, methods in METHODS.items():
@@ -67,8 +117,14 @@ class NamesTest(unittest.TestCase):
             for name in OPERATORS[place]:
                 self.assertIn(name, vars(cls))
 
+    def test_class_methods(self):
+        for place, methods in CLASS_METHODS.items():
+            for name, expected in methods.items():
+                self.assertIs(vars(member(place))[name].__class__, classmethod)
+                self.assertEqual(str(inspect.signature(getattr(member(place), name))), f"({expected})")
+
     def test_properties(self):
-        objects = {"Lot": Lot(2), "Table": Table(2, ())}
+        objects = {"Lot": Lot(2), "Table": Table(2, ()), "System": System.free(2), "Program": Program(System.free(2), 0, 1)}
         for place, names in PROPERTIES.items():
             for name in names:
                 self.assertIn(name, vars(member(place)))

@@ -12,6 +12,7 @@ BUILTINS = set("""len range enumerate zip min max sum abs sorted reversed int st
 isinstance ord repr any all divmod Exception ValueError TypeError KeyError IndexError LookupError ZeroDivisionError
 ArithmeticError OverflowError RuntimeError NotImplementedError NotImplemented iter property staticmethod classmethod super
 """.split())
+GENERATORS = {"all_rows", "paintings", "own_changes", "convex_lots", "free_lots", "all_ways", "right_signs"}
 LIBRARY = {"math": {"gcd", "lcm", "isqrt", "comb", "perm", "factorial"}}
 DUNDERS = set("""__init__ __eq__ __str__ __repr__ __len__ __iter__ __contains__ __getitem__ __or__ __and__ __sub__ __add__
 __invert__""".split())
@@ -55,6 +56,15 @@ def bound_names(tree):
             yield node.arg
         elif isinstance(node, ast.Name) and isinstance(node.ctx, ast.Store):
             yield node.id
+
+
+def is_plain(node):
+    """Whether a value is a constant, or a dict of constants."""
+    if isinstance(node, ast.Dict):
+        return all(is_plain(one) and not isinstance(one, ast.Dict) for one in node.keys + node.values)
+    if isinstance(node, ast.UnaryOp):
+        return isinstance(node.op, ast.USub) and is_plain(node.operand)
+    return isinstance(node, ast.Constant)
 
 
 class TextTest(unittest.TestCase):
@@ -135,7 +145,7 @@ class TreeTest(unittest.TestCase):
     def test_module_level(self):
         for path, tree in trees():
             for node in tree.body:
-                plain = isinstance(node, ast.Assign) and len(node.targets) == 1 and isinstance(node.value, ast.Constant)
+                plain = isinstance(node, ast.Assign) and len(node.targets) == 1 and is_plain(node.value)
                 docstring = isinstance(node, ast.Expr) and isinstance(node.value, ast.Constant)
                 self.assertTrue(plain or docstring or isinstance(node, (ast.ImportFrom, ast.FunctionDef, ast.ClassDef)),
                                 (path, node.lineno))
@@ -198,7 +208,7 @@ class TreeTest(unittest.TestCase):
                     if node.func.id in {"list", "tuple", "dict", "sorted", "sum", "any", "all", "enumerate", "zip"}:
                         allowed.add(node.args[0])
             for node in ast.walk(tree):
-                if isinstance(node, ast.Call) and isinstance(node.func, ast.Name) and node.func.id in words | {"all_rows"}:
+                if isinstance(node, ast.Call) and isinstance(node.func, ast.Name) and node.func.id in words | GENERATORS:
                     self.assertIn(node, allowed, (path, node.lineno))
                 if isinstance(node, ast.Call) and isinstance(node.func, ast.Attribute):
                     if node.func.attr in {"items", "keys", "values"}:

@@ -2,6 +2,7 @@
 
 import unittest
 from itertools import combinations, product
+from time import perf_counter
 
 from sidesigns.errors import InvalidLot, InvalidNumber, InvalidOperation, TooMany
 from sidesigns.rows.rows import Lot
@@ -148,16 +149,37 @@ class LayingsTest(unittest.TestCase):
             self.assertEqual(layings.layings(), layings)
 
     def test_within_the_limit(self):
-        singles = tuple("0" * at + sign + "0" * (7 - at) for at in range(8) for sign in "+-")
         for many in (8, 9):
-            lot = Lot(many, tuple(row + "0" * (many - 8) for row in singles))
+            lot = Lot(many, tuple(row + "0" * (many - 8) for row in singles(8)))
             self.assertEqual(len(lot.layings()), 3 ** 8)
         self.assertEqual(len(Lot(8, tuple(rows_of(8))).layings()), 3 ** 8)
 
+    def test_all_rows_of_eight_signs(self):
+        """All rows come of those that have one thing, and there are fewer than the limit."""
+        layings = Lot(8, singles(8)).layings()
+        self.assertEqual(len(layings), 6561)
+        self.assertEqual(list(layings), rows_of(8))
+
+    def test_too_many_of_nine_signs(self):
+        self.assertEqual(told_by(error_of(Lot(9, singles(9)).layings)), (TooMany, 7000))
+
+    def test_rows_are_ascending_and_each_once(self):
+        """The rows of lots and of their layings, whatever the order of the rows."""
+        for lot in SMALL + some_lots(5, 6, 20) + some_lots(9, 4, 5) + [Lot(8, singles(8)), Lot(7), Lot(7).uprights()]:
+            for one in (lot, lot.layings(), Lot(lot.many, lot.rows[::-1] + lot.rows).layings()):
+                self.assertEqual(list(one), sorted(set(one)))
+                self.assertEqual(list(one.rows), list(one))
+            self.assertEqual(lot.layings().rows, Lot(lot.many, lot.rows[::-1]).layings().rows)
+
+    def test_time(self):
+        """A hundred calls in less than a second; the least time of some, as others may have the machine."""
+        lots = [Lot(8, singles(8)), Lot(9, singles(9))]
+        for call in (lots[0].layings, lambda: error_of(lots[1].layings), Lot(7).uprights):
+            self.assertLess(least_time(call, 30), 0.01)
+
     def test_beyond_the_limit(self):
-        singles = tuple("0" * at + sign + "0" * (8 - at) for at in range(9) for sign in "+-")
         rows = tuple(rows_of(9))
-        for lot in (Lot(9, singles), Lot(9, rows), Lot(9, rows[:7001]), Lot(9, rows[:7000])):
+        for lot in (Lot(9, singles(9)), Lot(9, rows), Lot(9, rows[:7001]), Lot(9, rows[:7000])):
             self.assertEqual(told_by(error_of(lot.layings)), (TooMany, 7000))
 
     def test_just_at_the_limit(self):
@@ -168,6 +190,20 @@ class LayingsTest(unittest.TestCase):
         self.assertEqual(Lot(9, ("0" * 9, *rows)).layings(), lot | Lot(9, ("0" * 9,)))
         more = Lot(9, (*rows, "-" * 9))
         self.assertEqual(told_by(error_of(more.layings)), (TooMany, 7000))
+
+
+def singles(many):
+    """The rows that have just one thing."""
+    return tuple("0" * at + sign + "0" * (many - at - 1) for at in range(many) for sign in "+-")
+
+
+def least_time(call, times):
+    found = []
+    for _ in range(times):
+        start = perf_counter()
+        call()
+        found.append(perf_counter() - start)
+    return min(found)
 
 
 def rows_with_6999_layings():

@@ -19,17 +19,26 @@ def code_of(row):
     return code
 
 
-def row_of(code, many):
-    """The row of so many signs that has the code."""
-    return "".join([_sign_in(code, thing) for thing in range(many)])
+def rows_by_code(first, behind):
+    """The signs at the things from the first one to that ahead of the last, by their codes.
+
+    The rows are ascending.
+    """
+    rows = {0: ""}
+    for thing in range(first, behind):
+        signs = ((1 << thing, "+"), (1 << thing + SHIFT, "-"), (0, "0"))
+        rows = {code | bit: row + sign for code, row in rows.items() for bit, sign in signs}
+    return rows
 
 
-def _sign_in(code, thing):
-    if code >> thing & 1 == 1:
-        return "+"
-    if code >> thing + SHIFT & 1 == 1:
-        return "-"
-    return "0"
+def rows_of(codes, many):
+    """The rows of so many signs that have the codes."""
+    # Two short tables are made sooner than each row sign by sign.
+    half = many // 2
+    heads = rows_by_code(0, half)
+    tails = rows_by_code(half, many)
+    low = both_signs((1 << half) - 1)
+    return [heads[code & low] + tails[code & ~low] for code in codes]
 
 
 def turned_code(code):
@@ -48,6 +57,11 @@ def mask_of_things(things):
     for thing in things:
         mask = mask | 1 << thing
     return mask
+
+
+def size_of(mask):
+    """How many things a mask has."""
+    return f"{mask:b}".count("1")
 
 
 def both_signs(mask):

@@ -2,7 +2,7 @@
 
 from sidesigns.errors import InvalidLot, InvalidNumber, InvalidOperation, InvalidRow, TooMany
 from sidesigns.integers import is_between
-from sidesigns.rows.codes import LOW, both_signs, code_of, mask_of, row_of, turned_code
+from sidesigns.rows.codes import LOW, both_signs, code_of, mask_of, rows_by_code, rows_of, size_of, turned_code
 from sidesigns.rows.signs import turned_signs
 from sidesigns.things import is_ascending
 
@@ -145,24 +145,38 @@ def _has_within(mask, masks):
 
 def _laid_codes(codes):
     """The codes of all layings of rows, with that of the zero row."""
-    found = {0: True}
-    waiting = [0]
-    # A row laid under another one shows only where the other one has "0", so
-    # rows that look alike there are laid once.
-    showing = {}
-    while len(waiting) > 0:
-        code = waiting.pop()
-        free = both_signs(LOW ^ mask_of(code))
-        if free not in showing:
-            showing[free] = list({free & under: True for under in codes})
-        for part in showing[free]:
-            laid = code | part
-            if laid not in found:
-                found[laid] = True
-                waiting.append(laid)
-        if len(found) > MAX_LAYINGS:
-            raise TooMany(MAX_LAYINGS)
-    return list(found)
+    # What is laid over the layings of one lot of things has more things, and a
+    # lot with more things has a greater mask: so each lot is gone through once.
+    layers = {0: {0: True}}
+    many = 1
+    for mask in range(LOW + 1):
+        if mask in layers:
+            layer = list(layers[mask])
+            for more, parts in _parts_beside(codes, mask).items():
+                goal = layers.setdefault(mask | more, {})
+                many = many + _fill(goal, mask | more, layer, parts)
+                if many > MAX_LAYINGS:
+                    raise TooMany(MAX_LAYINGS)
+    return [code for layer in layers.values() for code in layer]
+
+
+def _parts_beside(codes, mask):
+    """What rows show beside some things, by the things that it has."""
+    free = both_signs(LOW ^ mask)
+    parts = {code & free: True for code in codes}
+    groups = {}
+    for part in parts:
+        groups.setdefault(mask_of(part), []).append(part)
+    return groups
+
+
+def _fill(goal, mask, layer, parts):
+    """Lay rows over the parts of others, and tell how many layings are new."""
+    before = len(goal)
+    # Nothing is new where all signs at all the things are there already.
+    if before < 1 << size_of(mask):
+        goal.update({code | part: True for part in parts for code in layer})
+    return len(goal) - before
 
 
 def _is_upright_to_all(code, others):
@@ -250,15 +264,23 @@ class Lot:
     def layings(self):
         """The lot of the zero row and of all layings of rows of the lot."""
         codes = _laid_codes([code_of(row) for row in self._rows])
-        return Lot(self._many, tuple([row_of(code, self._many) for code in codes]))
+        return lot_of(self._many, rows_of(codes, self._many))
 
     def uprights(self):
         """The lot of all rows that are upright to each row of the lot."""
         if self._many > MAX_UPRIGHT:
             raise TooMany(MAX_UPRIGHT)
         codes = [code_of(row) for row in self._rows]
-        found = [row for row in all_rows(self._many) if _is_upright_to_all(code_of(row), codes)]
-        return Lot(self._many, tuple(found))
+        rows = rows_by_code(0, self._many)
+        return lot_of(self._many, [row for code, row in rows.items() if _is_upright_to_all(code, codes)])
+
+
+def lot_of(many, rows):
+    """The lot of a list of rows that are known to have so many signs."""
+    made = Lot(many)
+    made._known = {row: True for row in rows}
+    made._rows = tuple(sorted(list(made._known)))
+    return made
 
 
 def _check_alike(one, other):

@@ -5,11 +5,19 @@ from sidesigns.integers import is_between
 from sidesigns.rows.codes import both_signs, code_of, mask_of, turned_code
 from sidesigns.rows.rows import are_apart_at, check_lot, turned
 from sidesigns.system.bases import bases_from, cuts_from
+from sidesigns.system.tellings import told_signs
 
 
 def rounds_paper(lot):
     """The paper on whether a lot is a lot of rounds."""
     check_lot(lot)
+    if told_signs(lot) is not None:
+        return ("rounds",)
+    return _broken_paper(lot)
+
+
+def _broken_paper(lot):
+    """The first paper on a broken rule."""
     if _has_zero_row(lot):
         return ("zero",)
     for row in lot.rows:

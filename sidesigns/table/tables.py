@@ -4,7 +4,7 @@ from sidesigns.errors import InvalidNumber, InvalidOperation, InvalidTable, Refu
 from sidesigns.integers import is_between, is_short
 from sidesigns.rows.basesigns import cuts_of_signs, rounds_of_signs
 from sidesigns.rows.rows import check_many, check_row, things_of, zeros_of
-from sidesigns.rows.signs import signs_of, turned_signs
+from sidesigns.rows.signs import signs_of, with_first_plus
 from sidesigns.table.sums import dependences, minors
 
 MAX_ROWS = 9
@@ -37,10 +37,7 @@ def determinant(rows):
 
 def _base_signs(rows, many):
     """The base signs of rows of which none depends."""
-    signs = signs_of(list(minors(rows, many).values()))
-    if signs.strip("0").startswith("-"):
-        return turned_signs(signs)
-    return signs
+    return with_first_plus(signs_of(list(minors(rows, many).values())))
 
 
 class Table:

@@ -1,0 +1,1 @@
+"""Hulls of lots of things."""

@@ -1,0 +1,1 @@
+"""Putting one more thing into a system."""
