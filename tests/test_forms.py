@@ -11,7 +11,7 @@ from sidesigns.system.forms import (back_change, form_of, form_paper, is_form_pa
 from sidesigns.system.judging import system_of_signs
 from sidesigns.system.systems import System
 from support import (POOL, Wrong, curve, error_of, has, is_between, is_row, is_things, opposite, rows_of, told_by)
-from worlds import CURVES, FIVE, FOUR, LINE, MIXED, PLANE, SIX, TINY, all_changes, all_things, bent
+from worlds import COLUMNED, CURVES, FIVE, FOUR, LINE, MIXED, PLANE, SIX, TINY, all_changes, all_things, bent
 
 SMALL = TINY + FOUR[::12]
 CHANGES = {many: all_changes(many) for many in range(5)}
@@ -90,7 +90,7 @@ class LedTest(unittest.TestCase):
 class PartsTest(unittest.TestCase):
     def test_parts(self):
         """[7.4]: some round has both, or some cut."""
-        for system in TINY + FOUR + FIVE + SIX + [bent(), PLANE + LINE, MIXED]:
+        for system in TINY + FOUR + FIVE + SIX + COLUMNED + [bent(), PLANE + LINE, MIXED]:
             for rows in (system.rounds, system.cuts):
                 near = [{thing}.union(*[has(row) for row in rows if thing in has(row)]) for thing in range(system.many)]
                 parts = sorted({tuple(sorted(part)) for part in near})

@@ -22,7 +22,7 @@ POINTS = [System.of_table(Table(6, ((1,) * 6, xs, ys))) for xs, ys in (
     ((0, 1, 2, 0, 1, 2), (0, 0, 0, 1, 1, 1)), ((0, 4, 4, 0, 1, 2), (0, 0, 4, 4, 2, 1)), ((0, 6, 3, 3, 2, 4), (0, 0, 6, 2, 1, 1)),
     ((0, 2, 4, 1, 3, 2), (0, 0, 0, 2, 2, 4)))] + [
     System.of_table(Table(6, ((1,) * 6, (0, 2, 0, 0, 1, 1), (0, 0, 2, 0, 1, 1), (0, 0, 0, 2, 1, -1))))]
-SOME = GOOD[::3] + POINTS + [LINE, PLANE]
+SOME = GOOD + POINTS + [LINE, PLANE]
 
 
 def plain_hull(system, things):

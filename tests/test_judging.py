@@ -10,7 +10,7 @@ from sidesigns.system.judging import (is_regions_paper, is_signs_paper, is_views
 from sidesigns.system.systems import System
 from support import (POOL, Wrong, apart_at, curve, error_of, has, is_between, is_row, lots_of_rows, opposite, over,
                      rows_of, told_by)
-from worlds import (CURVES, FIVE, FOUR, LINE, PLANE, SIX, TINY, bent, eight, first_sign_paper, lots, right_strings,
+from worlds import (COLUMNED, CURVES, FIVE, FOUR, LINE, PLANE, SIX, TINY, bent, eight, first_sign_paper, lots, right_strings,
                     sign_papers, strings, turned)
 
 SMALL = TINY + FOUR
@@ -111,7 +111,7 @@ class ViewsTest(unittest.TestCase):
 
     def test_lots_of_views(self):
         """[5.1], [5.6]: just the views of systems, and of one each."""
-        for system in SMALL + FIVE + SIX[::3]:
+        for system in SMALL + FIVE + SIX[::3] + COLUMNED[::9]:
             views = system.views()
             self.assertEqual(views_paper(views), ("views",))
             self.assertEqual(system_of_views(views), system)
@@ -171,7 +171,7 @@ class RegionsTest(unittest.TestCase):
         """[5.2], [5.6]: just the regions of systems, and of one each."""
         curves = [system for system in CURVES if len(system.views()) <= 1500]
         self.assertGreater(len(curves), 30)
-        for system in SMALL + FIVE + SIX[::3] + curves:
+        for system in SMALL + FIVE + SIX[::3] + curves + COLUMNED[::9]:
             regions = system.regions()
             self.assertEqual(regions_paper(regions), ("regions",))
             self.assertEqual(system_of_regions(regions), system)
@@ -263,7 +263,7 @@ class SignsTest(unittest.TestCase):
 
     def test_strings_of_systems(self):
         """[5.3], [5.6]."""
-        for system in SMALL + FIVE + SIX + CURVES + [bent(), eight()]:
+        for system in SMALL + FIVE + SIX + CURVES + COLUMNED + [bent(), eight()]:
             again = system_of_signs(system.many, system.rank, system.signs)
             self.assertEqual((again, again.signs, again.rank), (system, system.signs, system.rank))
         for many in range(4):

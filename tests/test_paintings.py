@@ -10,7 +10,7 @@ from sidesigns.system.systems import System
 from sidesigns.table.tables import Table
 from support import (POOL, Wrong, are_upright, curve, error_of, has, is_between, is_plain, lots_of_rows, opposite, rows_of,
                      signs_of, small_tables, told_by)
-from worlds import FIVE, FOUR, LINE, MIXED, PLANE, SIX, TINY, bent, some_tables
+from worlds import COLUMNED, FIVE, FOUR, LINE, MIXED, PLANE, SIX, TINY, bent, some_tables
 
 WORDS = ["".join(word) for size in range(5) for word in combinations("acos", size)]
 AT_ROUNDS = {"r": "+", "s": "+0", "a": "-0", "o": "+-0", "c": "0"}
@@ -38,7 +38,7 @@ def fitting(rounds, cuts, painting):
 class PaintedTest(unittest.TestCase):
     def test_one_of_both(self):
         """[0.17], [6.3]: over all paintings."""
-        for system in TINY + FOUR[::3] + FIVE[::25]:
+        for system in TINY + FOUR + FIVE[::20] + COLUMNED[::40]:
             for painting in all_paintings(system.many):
                 found = fitting(system.rounds, system.cuts, painting)
                 self.assertEqual(len({word for word, _ in found}), 1)
@@ -153,7 +153,7 @@ class PairTest(unittest.TestCase):
         three = [system for system in TINY if system.many == 3]
         for one, other in product(three, repeat=2):
             self.assertIs(pair_paper(one.rounds, other.cuts) == ("pair",), one == other)
-        for system in FOUR + FIVE + SIX + [bent(), System.of_table(curve(9, 4))]:
+        for system in FOUR + FIVE + SIX + COLUMNED + [bent(), System.of_table(curve(9, 4))]:
             self.assertEqual(pair_paper(system.rounds, system.cuts), ("pair",))
 
     def test_judged(self):

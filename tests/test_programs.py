@@ -9,9 +9,9 @@ from sidesigns.errors import InvalidNumber, InvalidOperation, InvalidProgram, In
 from sidesigns.system.systems import System
 from sidesigns.table.tables import Table
 from support import POOL, Wrong, curve, error_of, has, is_between, is_things, rows_of, small_tables, told_by
-from worlds import FIVE, FOUR, LINE, MIXED, PLANE, TINY, bent, eight, plain_views, some_tables
+from worlds import COLUMNED, FIVE, FOUR, LINE, MIXED, PLANE, TINY, bent, eight, plain_views, some_tables
 
-SOME = TINY + FOUR[::6] + FIVE[::15] + [LINE, MIXED]
+SOME = TINY + FOUR[::2] + FIVE[::15] + COLUMNED[::90] + [LINE, MIXED]
 
 
 def programs(systems):

@@ -9,10 +9,10 @@ from sidesigns.more.putting import (all_ways, by_steps, is_line_paper, line_pape
 from sidesigns.system.systems import System
 from sidesigns.table.tables import Table
 from support import POOL, Wrong, curve, error_of, is_between, opposite, over, told_by
-from worlds import DRAWN, FIVE, FOUR, LINE, MIXED, PLANE, SIX, TINY, bent, eight, is_nowhere_apart, some_tables, of_tables
+from worlds import COLUMNED, DRAWN, FIVE, FOUR, LINE, MIXED, PLANE, SIX, TINY, bent, eight, is_nowhere_apart, some_tables, of_tables
 
-SOME = TINY + FOUR[::5] + FIVE[::12] + [LINE, PLANE, MIXED]
-FEW = [system for system in TINY + FOUR[::3] if len(system.cuts) <= 12]
+SOME = TINY + FOUR + FIVE[::12] + COLUMNED[::60] + [LINE, PLANE, MIXED]
+FEW = [system for system in TINY + FOUR if len(system.cuts) <= 12]
 RANK_THREE = [system for system in TINY + FOUR + FIVE[::7] + SIX[::3] if system.rank == 3]
 
 
@@ -79,7 +79,7 @@ class LinesTest(unittest.TestCase):
 
     def test_signings_judged(self):
         """[11.4], over all signings."""
-        for system in FEW[::4]:
+        for system in FEW[::3]:
             lines = lines_of(system)
             for signs in signings(system):
                 wrong = wrong_lines(system, signs)
@@ -201,7 +201,7 @@ class PutTest(unittest.TestCase):
 class StepsTest(unittest.TestCase):
     def test_by_steps(self):
         """[11.6]."""
-        for system in SOME[::3] + [PLANE]:
+        for system in SOME[::4] + [PLANE]:
             many = system.many
             pairs = list(product(range(many), "+-"))
             for steps in [()] + [(one,) for one in pairs] + [(one, other) for one, other in product(pairs, repeat=2)

@@ -10,10 +10,10 @@ from sidesigns.rows.rows import Lot
 from sidesigns.system.forms import led
 from sidesigns.system.systems import System
 from support import POOL, Wrong, apart_at, curve, error_of, is_between, is_plain, opposite, told_by
-from worlds import (CURVES, DRAWN, FIVE, FOUR, LINE, MIXED, PLANE, SIX, TINY, all_changes, bent, eight, is_laid_on,
+from worlds import (COLUMNED, CURVES, DRAWN, FIVE, FOUR, LINE, MIXED, PLANE, SIX, TINY, all_changes, bent, eight, is_laid_on,
                     plain_regions, turned)
 
-SOME = TINY + FOUR[::4] + FIVE[::12] + SIX[::5] + [LINE, PLANE, MIXED]
+SOME = TINY + FOUR[::2] + FIVE[::12] + SIX[::5] + COLUMNED[::60] + [LINE, PLANE, MIXED]
 LARGE = [bent(), eight(), System.of_table(curve(9, 4))]
 SIMPLE = [system for system in TINY + FOUR + FIVE + SIX if system.is_simple]
 
@@ -75,7 +75,7 @@ def plain_sides(web):
 class NumbersTest(unittest.TestCase):
     def test_two_numbers(self):
         """[8.1]."""
-        for system in SOME + LARGE:
+        for system in SOME + FOUR[1::2] + LARGE + COLUMNED[::9]:
             numbers = two_numbers(system)
             self.assertEqual(numbers, plain_numbers(system, range(system.many)))
             self.assertEqual(list(numbers), sorted(numbers))
@@ -126,7 +126,7 @@ class NumbersTest(unittest.TestCase):
 
     def test_region_count(self):
         """[8.3]."""
-        for system in SOME + LARGE + CURVES:
+        for system in SOME + FOUR[1::2] + LARGE + CURVES + COLUMNED[::5]:
             count = region_count(system)
             self.assertEqual(count, len(system.regions()))
             self.assertEqual(count, sum(abs(number) for number in flat_sums(system).values()))
@@ -260,7 +260,7 @@ class WebTest(unittest.TestCase):
         return made
 
     def test_webs_of_simple_systems(self):
-        for system in SIMPLE[::3]:
+        for system in SIMPLE:
             made = self.check_made(region_web(system), system)
             if made.many < 4:
                 self.assertIn(made, [led(system, *change) for change in all_changes(system.many)])

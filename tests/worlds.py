@@ -82,6 +82,15 @@ def all_systems(many):
     return [system_of_signs(many, rank, text) for rank in range(many + 1) for text in right_strings(many, rank)]
 
 
+def of_columns(many, columns):
+    """The systems of all tables whose columns are among some told ones, each once."""
+    found = {}
+    for chosen in product(columns, repeat=many):
+        table = Table(many, tuple(zip(*chosen)))
+        found.setdefault((table.rank, table.signs), table)
+    return [System.of_table(found[key]) for key in sorted(found)]
+
+
 # All systems of at most three things, and those of four.
 TINY = [system for many in range(4) for system in all_systems(many)]
 FOUR = all_systems(4)
@@ -104,6 +113,8 @@ def some_tables(many, height, step):
 
 
 FIVE = of_tables(some_tables(5, 2, 3) + some_tables(5, 3, 5) + some_tables(5, 4, 7) + some_tables(5, 1, 9))
+# The systems of all tables of five things with columns of integers from -1 to 1 of one or two rows, but for turning.
+COLUMNED = of_columns(5, ((0, 0), (1, 0), (0, 1), (1, 1), (1, -1))) + of_columns(5, ((-1,), (0,), (1,)))
 SIX = of_tables(some_tables(6, 3, 5)[:12] + [curve(6, rank) for rank in range(7)])
 CURVES = [System.of_table(curve(many, rank)) for many in range(8) for rank in range(many + 1)]
 

@@ -3,7 +3,7 @@
 from sidesigns.errors import InvalidOperation, InvalidRow, Refused
 from sidesigns.region.counting import active_counts_of, sums_of_flats
 from sidesigns.region.sides import all_sides, check_joined, is_web, rows_of_sides
-from sidesigns.rows.codes import both_signs, code_of, mask_of_things
+from sidesigns.rows.codes import both_signs, code_of, has_within, mask_of_things
 from sidesigns.rows.rows import apart, lot_of
 from sidesigns.system.checks import check_thing
 from sidesigns.system.regionrounds import system_with_regions
@@ -45,17 +45,10 @@ def bounded_regions(system, thing):
     check_thing(thing, system.many)
     if len(system.loops) > 0:
         return ()
+    # A cut with another sign than "+" there that can be laid over such a region has "0".
     cuts = [code_of(row) for row in system.cuts.rows if row[thing] == "0"]
-    return tuple([row for row in system.regions().rows if row[thing] == "+" and not _is_covering(row, cuts)])
-
-
-def _is_covering(row, cuts):
-    """Whether some cut can be laid over a row without changing it."""
-    code = code_of(row)
-    for cut in cuts:
-        if code & cut == cut:
-            return True
-    return False
+    regions = [row for row in system.regions().rows if row[thing] == "+"]
+    return tuple([row for row in regions if not has_within(code_of(row), cuts)])
 
 
 def _region_codes(system):

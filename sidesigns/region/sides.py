@@ -1,6 +1,7 @@
 """Webs of neighbours, and the sides of their ties."""
 
 from sidesigns.errors import Refused, TooMany
+from sidesigns.rows.codes import mask_of_things
 from sidesigns.rows.rows import MAX_THINGS
 from sidesigns.things import is_ascending
 
@@ -28,18 +29,11 @@ def layers_from(neighbours, start):
     level = [start]
     layers = []
     while level != []:
-        layers.append(_mask_of_indices(level))
+        layers.append(mask_of_things(level))
         reached = {other: True for index in level for other in neighbours[index]}
         level = [other for other in reached if seen >> other & 1 == 0]
-        seen = seen | _mask_of_indices(level)
+        seen = seen | mask_of_things(level)
     return layers
-
-
-def _mask_of_indices(indices):
-    mask = 0
-    for index in indices:
-        mask = mask | 1 << index
-    return mask
 
 
 def check_joined(neighbours):

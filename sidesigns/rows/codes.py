@@ -51,6 +51,14 @@ def mask_of(code):
     return (code >> SHIFT | code) & LOW
 
 
+def has_within(whole, parts):
+    """Whether a mask, or a code, has all bits of some of others."""
+    for part in parts:
+        if part & whole == part:
+            return True
+    return False
+
+
 def mask_of_things(things):
     """The bits of some things."""
     mask = 0

@@ -40,20 +40,21 @@ def check_lot(lot):
         raise InvalidLot("not a lot of rows")
 
 
-def _check_any_row(row):
+def check_any_row(row):
+    """Refuse what is no sign row of any number of things."""
     if not isinstance(row, str) or len(row) > MAX_THINGS:
         raise InvalidRow("not a sign row")
     check_row(row, len(row))
 
 
 def _check_rows(one, other):
-    _check_any_row(one)
+    check_any_row(one)
     check_row(other, len(one))
 
 
 def turned(row, things=None):
     """The row, turned at the told things, or at all."""
-    _check_any_row(row)
+    check_any_row(row)
     whole = turned_signs(row)
     if things is None:
         return whole
@@ -91,26 +92,26 @@ def _is_code_upright(one, other):
 
 def things_of(row):
     """The things that the row has."""
-    _check_any_row(row)
+    check_any_row(row)
     return tuple([thing for thing, sign in enumerate(row) if sign != "0"])
 
 
 def zeros_of(row):
     """The things that the row has not."""
-    _check_any_row(row)
+    check_any_row(row)
     return tuple([thing for thing, sign in enumerate(row) if sign == "0"])
 
 
 def signs_at(row, things):
     """The row of the signs at the told things, in order."""
-    _check_any_row(row)
+    check_any_row(row)
     check_things(things, len(row))
     return "".join([row[thing] for thing in things])
 
 
 def spread(row, things, many):
     """The row of so many signs with those of a row at the told things, and else "0"."""
-    _check_any_row(row)
+    check_any_row(row)
     check_things(things, MAX_THINGS)
     if len(things) != len(row):
         raise InvalidOperation("not as many things as signs")

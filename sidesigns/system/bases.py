@@ -1,6 +1,6 @@
 """Bases and cuts of lots that are known to be lots of rounds."""
 
-from sidesigns.rows.codes import code_of, mask_of, mask_of_things
+from sidesigns.rows.codes import code_of, has_within, mask_of, mask_of_things
 from sidesigns.rows.rows import Lot
 from sidesigns.things import behind, without
 
@@ -11,18 +11,10 @@ def bases_from(rounds):
     lots = [()]
     while True:
         longer = [lot + (thing,) for lot in lots for thing in range(behind(lot), rounds.many)]
-        longer = [lot for lot in longer if _is_free(lot, masks)]
+        longer = [lot for lot in longer if not has_within(mask_of_things(lot), masks)]
         if longer == []:
             return tuple(lots)
         lots = longer
-
-
-def _is_free(lot, masks):
-    things = mask_of_things(lot)
-    for mask in masks:
-        if mask & things == mask:
-            return False
-    return True
 
 
 def cuts_from(rounds, bases):

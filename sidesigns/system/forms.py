@@ -1,10 +1,10 @@
 """Changes of names and signs, and the forms of systems."""
 
-from sidesigns.errors import InvalidOperation, InvalidRow, TooMany
+from sidesigns.errors import InvalidOperation, TooMany
 from sidesigns.papers import is_told
 from sidesigns.rows.basesigns import signs_by_lot
 from sidesigns.rows.codes import code_of, mask_of
-from sidesigns.rows.rows import MAX_THINGS, check_row, check_things, turned
+from sidesigns.rows.rows import MAX_THINGS, check_any_row, check_things, turned
 from sidesigns.system.changes import least_signs, orders_of, things_to_turn
 from sidesigns.system.checks import check_order
 from sidesigns.system.ranks import things_in
@@ -24,9 +24,7 @@ def led(system, order, things):
 
 def led_row(row, order, things):
     """The row to which a change leads a row."""
-    if not isinstance(row, str) or len(row) > MAX_THINGS:
-        raise InvalidRow("not a sign row")
-    check_row(row, len(row))
+    check_any_row(row)
     check_order(order, len(row))
     check_things(things, len(row))
     return turned("".join([row[thing] for thing in order]), things)

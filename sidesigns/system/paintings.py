@@ -3,9 +3,10 @@
 from sidesigns.errors import InvalidLot, InvalidOperation, InvalidPainting, TooMany
 from sidesigns.integers import are_integers
 from sidesigns.papers import is_told
-from sidesigns.rows.codes import code_of, mask_of, turned_code
+from sidesigns.rows.codes import code_of, has_within, mask_of, turned_code
 from sidesigns.rows.rows import check_lot, check_many, is_upright, turned
 from sidesigns.rows.signs import signs_of
+from sidesigns.system.rounds import are_unlike, first_within
 from sidesigns.system.systems import System, check_system
 from sidesigns.system.tellings import told_signs
 from sidesigns.system.viewing import is_upright_code
@@ -135,7 +136,7 @@ def pair_paper(rounds, cuts):
             if turned(row) not in lot:
                 return ("turned", name, row)
     for name, lot in named:
-        within = _first_within(lot)
+        within = first_within(lot)
         if within is not None:
             return ("within", name, *within)
     return _unlike_paper(rounds, cuts)
@@ -144,20 +145,6 @@ def pair_paper(rounds, cuts):
 def _are_pair(rounds, cuts):
     """Whether both lots are those of one system."""
     return told_signs(rounds) is not None and System(rounds).cuts == cuts
-
-
-def _first_within(lot):
-    """The least row of a lot within another one, with that one, or None."""
-    masks = [mask_of(code_of(row)) for row in lot.rows]
-    for at, mask in enumerate(masks):
-        for place, other in enumerate(masks):
-            if mask & other == mask and _are_unlike(lot.rows[at], lot.rows[place]):
-                return (lot.rows[at], lot.rows[place])
-    return None
-
-
-def _are_unlike(row, other):
-    return row != other and row != turned(other)
 
 
 def _unlike_paper(rounds, cuts):
@@ -175,7 +162,7 @@ def _unlike_paper(rounds, cuts):
         red = painting.index("r")
         rounds_within = _mask_of_letters(painting, "ro")
         cuts_within = _mask_of_letters(painting, "rc")
-        if not _has_one(round_masks[red], rounds_within) and not _has_one(cut_masks[red], cuts_within):
+        if not has_within(rounds_within, round_masks[red]) and not has_within(cuts_within, cut_masks[red]):
             return ("painting", painting)
     return ("pair",)
 
@@ -193,13 +180,6 @@ def _mask_of_letters(painting, letters):
         if letter in letters:
             mask = mask | 1 << thing
     return mask
-
-
-def _has_one(masks, whole):
-    for mask in masks:
-        if mask & whole == mask:
-            return True
-    return False
 
 
 def is_pair_paper(rounds, cuts, value):
@@ -236,7 +216,7 @@ def _is_lot_paper(lot, value):
     if not is_told(value, "within", 4):
         return False
     _, _, row, other = value
-    if row not in lot or other not in lot or not _are_unlike(row, other):
+    if row not in lot or other not in lot or not are_unlike(row, other):
         return False
     mask = mask_of(code_of(row))
     return mask != 0 and mask & mask_of(code_of(other)) == mask

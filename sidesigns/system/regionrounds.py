@@ -1,6 +1,6 @@
 """Systems told by their regions."""
 
-from sidesigns.rows.codes import SHIFT, both_signs, code_of, mask_of_things, rows_of, turned_code
+from sidesigns.rows.codes import SHIFT, both_signs, code_of, has_within, mask_of_things, rows_of, turned_code
 from sidesigns.rows.rows import Lot, zeros_of
 from sidesigns.system.systems import system_of
 from sidesigns.system.tellings import told_signs
@@ -31,7 +31,7 @@ def _missing_codes(lot, things):
     rounds = []
     while free != []:
         longer = [one + (thing,) for one in free for thing in things if thing >= behind(one)]
-        longer = [one for one in longer if not _has_one(mask_of_things(one), masks)]
+        longer = [one for one in longer if not has_within(mask_of_things(one), masks)]
         free = []
         for one in longer:
             missing = _missing_at(codes, one)
@@ -43,13 +43,6 @@ def _missing_codes(lot, things):
             else:
                 return None
     return rounds
-
-
-def _has_one(mask, masks):
-    for other in masks:
-        if other & mask == other:
-            return True
-    return False
 
 
 def _missing_at(codes, things):

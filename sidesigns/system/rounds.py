@@ -2,7 +2,7 @@
 
 from sidesigns.errors import InvalidNumber, InvalidRow, Refused
 from sidesigns.integers import is_between
-from sidesigns.rows.codes import both_signs, code_of, mask_of, turned_code
+from sidesigns.rows.codes import both_signs, code_of, has_within, mask_of, turned_code
 from sidesigns.rows.rows import are_apart_at, check_lot, turned
 from sidesigns.system.bases import bases_from, cuts_from
 from sidesigns.system.tellings import told_signs
@@ -23,9 +23,9 @@ def _broken_paper(lot):
     for row in lot.rows:
         if turned(row) not in lot:
             return ("turned", row)
-    within = _first_within(lot)
+    within = first_within(lot)
     if within is not None:
-        return within
+        return ("within", *within)
     taken = _first_taken(lot)
     if taken is not None:
         return taken
@@ -36,17 +36,18 @@ def _has_zero_row(lot):
     return "0" * lot.many in lot
 
 
-def _first_within(lot):
-    """The least paper of the kind "within" about an even lot, or None."""
-    masks = {row: mask_of(code_of(row)) for row in lot.rows}
-    for row in lot.rows:
-        for other in lot.rows:
-            if masks[row] & masks[other] == masks[row] and _are_unlike(row, other):
-                return ("within", row, other)
+def first_within(lot):
+    """The least row of a lot within another one, with the least such one, or None."""
+    masks = [mask_of(code_of(row)) for row in lot.rows]
+    for at, mask in enumerate(masks):
+        for place, other in enumerate(masks):
+            if mask & other == mask and are_unlike(lot.rows[at], lot.rows[place]):
+                return (lot.rows[at], lot.rows[place])
     return None
 
 
-def _are_unlike(one, other):
+def are_unlike(one, other):
+    """Whether rows are neither equal nor each other's turned rows."""
     return one != other and one != turned(other)
 
 
@@ -60,7 +61,7 @@ def _first_taken(lot):
             for thing in _things_to_take(one, codes[other_at], lot.many):
                 room = _room(one, codes[other_at], thing)
                 if room not in fitted:
-                    fitted[room] = _fits_one(codes, room)
+                    fitted[room] = has_within(room, codes)
                 if not fitted[room]:
                     return ("taken", lot.rows[at], lot.rows[other_at], thing)
     return None
@@ -77,13 +78,6 @@ def _things_to_take(one, other, many):
 def _room(one, other, thing):
     """The signs that a row has that fits two rows, apart at the thing: these or fewer."""
     return (one | other) & ~both_signs(1 << thing)
-
-
-def _fits_one(codes, room):
-    for code in codes:
-        if code | room == room:
-            return True
-    return False
 
 
 def is_rounds_paper(lot, value):

@@ -1,6 +1,6 @@
 """Rows that are upright to rounds: views and regions, told thing by thing."""
 
-from sidesigns.rows.codes import SHIFT, code_of, mask_of, rows_of, turned_code
+from sidesigns.rows.codes import SHIFT, code_of, has_within, mask_of, rows_of, turned_code
 
 
 def region_rows(many, rounds):
@@ -12,7 +12,7 @@ def region_rows(many, rounds):
         # these things, so no other row has to be gone on with.
         if not _has_loop(groups[thing], thing):
             longer = [code | bit for code in codes for bit in (1 << thing, 1 << thing + SHIFT)]
-            codes = [code for code in longer if not _covers_one(code, groups[thing])]
+            codes = [code for code in longer if not has_within(code, groups[thing])]
     return rows_of(codes, many)
 
 
@@ -26,14 +26,6 @@ def _by_last(many, codes):
 
 def _has_loop(codes, thing):
     return 1 << thing in codes
-
-
-def _covers_one(code, others):
-    """Whether a row has all signs of some other one."""
-    for other in others:
-        if code & other == other:
-            return True
-    return False
 
 
 def is_upright_code(one, other, turned):
