@@ -123,15 +123,19 @@ class FormsTest(unittest.TestCase):
 
     def test_of_one_form(self):
         """[7.3], over all pairs of small systems."""
-        for one, other in list(product(TINY, repeat=2)) + list(product(FOUR[::13], repeat=2)):
-            if one.many == other.many:
-                changes = [change for change in CHANGES[one.many] if led(one, *change) == other]
-                self.assertIs(bool(changes), least_form(one) == least_form(other))
-                paper = form_paper(one, other)
-                if changes:
-                    self.assertIn(paper, [("led", *change) for change in changes])
-                else:
-                    self.assertEqual(paper, ("forms", least_form(one), least_form(other)))
+        for group in [[system for system in TINY if system.many == many] for many in range(4)] + [FOUR[::9]]:
+            for one in group:
+                led_to = {}
+                for change in CHANGES[one.many]:
+                    led_to.setdefault(form_of(led(one, *change)), []).append(("led", *change))
+                for other in group:
+                    papers = led_to.get(form_of(other), [])
+                    self.assertIs(bool(papers), least_form(one) == least_form(other))
+                    paper = form_paper(one, other)
+                    if papers:
+                        self.assertIn(paper, papers)
+                    else:
+                        self.assertEqual(paper, ("forms", least_form(one), least_form(other)))
 
     def test_six_things_of_rank_three(self):
         """[7.6]: four least forms in general place."""

@@ -3,6 +3,7 @@
 import ast
 import unittest
 
+from test_interface import CLASS_METHODS, FUNCTIONS, METHODS, OPERATORS, PROPERTIES
 from test_language import GENERATORS, trees
 
 CHANGING = set("append clear extend insert pop remove reverse setdefault update sort add discard".split())
@@ -168,6 +169,14 @@ class LoopsTest(unittest.TestCase):
             inner = around | own
         for child in ast.iter_child_nodes(node):
             self.check_names(function, child, inner)
+
+    def test_every_function_is_used_or_of_the_interface(self):
+        told = {name for names in FUNCTIONS.values() for name in names}
+        told |= {name for names in (*METHODS.values(), *PROPERTIES.values(), *OPERATORS.values()) for name in names}
+        told |= {name for names in CLASS_METHODS.values() for name in names}
+        read = {node.id for _, tree in trees() for node in ast.walk(tree) if isinstance(node, ast.Name)}
+        read |= {node.attr for _, tree in trees() for node in ast.walk(tree) if isinstance(node, ast.Attribute)}
+        self.assertEqual({node.name for _, node in ALL} - told - read - {"__init__"}, set())
 
     def test_what_is_reversed(self):
         for _, node in ALL:

@@ -97,17 +97,18 @@ class LinesTest(unittest.TestCase):
 
     def test_no_other_value(self):
         right = by_steps(PLANE, ((0, "+"), (1, "-")))
-        wrong = dict(right)
-        cut = next(iter(wrong))
-        wrong[cut], wrong[opposite(cut)] = opposite(wrong[cut]) if wrong[cut] != "0" else "+", wrong[cut]
+        wrong = {cut: "0" if cut in ("+0-00", "-0+00") else sign for cut, sign in right.items()}
+        lines = wrong_lines(PLANE, wrong)
+        self.assertEqual(lines, [(1,), (3,)])
+        right_papers = [repr(("line", line)) for line in lines]
         for value in POOL:
-            for signs in (right, wrong):
-                lines = wrong_lines(PLANE, signs) if all(signs[one] == opposite(signs[opposite(one)]) for one in signs) else None
-                if lines is not None:
-                    self.assertIs(is_line_paper(PLANE, signs, value), value == ("right",) and not lines)
-                    for told in (("line", value), ("right", value), (value, (0,)), ["right"], ("line", (0,), value)):
-                        expected = told[0] == "line" and len(told) == 2 and value in lines and type(value[0]) is int
-                        self.assertIs(is_line_paper(PLANE, signs, told), expected)
+            self.assertIs(is_line_paper(PLANE, right, value), value == ("right",))
+            self.assertIs(is_line_paper(PLANE, wrong, value), False)
+            for signs, told in product((right, wrong), (("line", value), ("right", value), (value, (1,)), ["right"],
+                                                        ("line", (1,), value), ["line", (1,)], ("line", [1]))):
+                self.assertIs(is_line_paper(PLANE, signs, told), signs is wrong and repr(told) in right_papers)
+        self.assertIs(is_line_paper(PLANE, wrong, ("line", (1,))), True)
+        self.assertIs(is_line_paper(PLANE, wrong, ("line", (True,))), False)
         bad = {"+-0": "+", "+0+": "-", "-+0": "-", "-0-": "+", "0++": "+", "0--": "-"}
         self.assertIs(is_line_paper(DRAWN, bad, ("line", ())), True)
         for value in (["line", ()], ("line", []), ("line",), ("line", (), ()), ("right",)):

@@ -73,8 +73,15 @@ class Program:
         for row in cuts:
             if self._is_ray(row):
                 return ("endless", corners[0], row)
-        pairs = [(view, row) for view in corners for row in rounds if self._is_best_round(view, row)]
-        return ("best", *pairs[0])
+        return self._best_answer(corners, rounds)
+
+    def _best_answer(self, corners, rounds):
+        """The first best answer of feasible cuts and of rounds; crossings end in one of these."""
+        for view in corners:
+            for row in rounds:
+                if self._is_best_round(view, row):
+                    return ("best", view, row)
+        return None
 
     def _is_barring(self, row):
         """Whether a round without sides against it shows that no view is feasible."""

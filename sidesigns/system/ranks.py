@@ -1,6 +1,6 @@
 """Ranks and flats of lots of things, as masks."""
 
-from sidesigns.rows.codes import LOW, mask_of_things, size_of
+from sidesigns.rows.codes import mask_of_things, size_of
 
 
 def things_in(mask):
@@ -70,8 +70,3 @@ def _is_flat(ranks, many, mask):
 def sorted_lots(masks):
     """The lots of some masks, as ascending tuples, in Python's order."""
     return sorted([things_in(mask) for mask in masks])
-
-
-def all_but(mask, many):
-    """The mask of all other things."""
-    return (1 << many) - 1 & ~mask & LOW
