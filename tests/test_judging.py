@@ -346,7 +346,8 @@ class WrongArguments(unittest.TestCase):
                 Wrong(lambda lot, value=value: call(lot, value), (Lot(3),), kinds).check(self)
 
     def test_signs(self):
-        for call in (signs_paper, system_of_signs, lambda *told: is_signs_paper(*told, ("signs",))):
+        for call in (signs_paper, system_of_signs, lambda *told: is_signs_paper(*told, ("signs",)),
+                     lambda *told: is_signs_paper(*told, None), lambda *told: is_signs_paper(*told, ("none",))):
             right = (3, 2, "+++")
             self.assertEqual(error_of(lambda: call(*right)), None)
             for value in [one for one in POOL if not is_between(one, 0, 9)]:

@@ -223,6 +223,8 @@ class NeighboursTest(unittest.TestCase):
         self.assertIs(is_steps(LINE, "++++", "++++", ("++++", "+++-", "++++")), False)
 
     def test_no_other_value(self):
+        for row in ("+++-0", "+++-x", "+++- ", ("+", "+", "+", "-")):
+            self.assertIs(is_steps(LINE, "++++", "++--", ("++++", row, "++--")), False)
         for value in POOL:
             self.assertIs(is_steps(LINE, "++++", "++--", value), False)
             self.assertIs(is_steps(LINE, "++++", "++--", ("++++", value, "++--")), False)
