@@ -12,19 +12,15 @@ from sidesigns.table.tables import check_table
 from sidesigns.things import is_ascending, others_than
 
 
-def _check_ends(far, goal, many):
-    check_thing(far, many)
-    check_thing(goal, many)
-    if far == goal:
-        raise InvalidProgram("the far thing and the goal are one thing")
-
-
 class Program:
     """A system with a far thing and a goal."""
 
     def __init__(self, system, far, goal):
         check_system(system)
-        _check_ends(far, goal, system.many)
+        check_thing(far, system.many)
+        check_thing(goal, system.many)
+        if far == goal:
+            raise InvalidProgram("the far thing and the goal are one thing")
         self._system = system
         self._far = far
         self._goal = goal
@@ -187,7 +183,6 @@ def _exchanged(base, old, new):
 def table_answer(table, far, goal):
     """The greatest number at the goal that a weighted row has with 1 at the far thing, if there is one."""
     check_table(table)
-    _check_ends(far, goal, table.many)
     answer = Program(System.of_table(table), far, goal).answer()
     if answer[0] != "best":
         return (answer[0],)
