@@ -2,12 +2,17 @@
 
 from itertools import combinations, product
 
-from sidesigns.errors import InvalidNumber, Refused, TooMany
+from sidesigns.errors import InvalidNumber, NothingToUndo, ParseError, Refused, TooMany, UnknownName
 from sidesigns.best.programs import Program
+from sidesigns.desk.desk import Desk
 from sidesigns.rows.rows import Lot
 from sidesigns.system.systems import System
 from sidesigns.table.tables import Table
+from sidesigns.web.webs import Web
 
+# What the errors keep that take no message.
+KEPT = {InvalidNumber: "value", Refused: "reason", TooMany: "limit", ParseError: "index", UnknownName: "name",
+        NothingToUndo: "times"}
 DEEP = ((((((((),),),),),),),)
 
 # Values of every kind that [0.4] names. Each call picks those that are wrong for it.
@@ -24,6 +29,10 @@ POOL = (
     "r", "rsa", "srr", "ao", "acos", "roc", "co", (((0,), ()),), ((1, 0), (1,)), ((), ()), ((0, 1), [0]), ((0, 1), (True,)),
     ("pair",), ("views",), ("right",), ("member",), ("round", "+-0"), ("cut", "00+"), ((0, "+"),), ((0, "+"), (0, "-")),
     ((1, 2), (0, 2), (0, 1)), {"+": "-", "-": "+"},
+    Web(0, ()), Web(3, ((0, 1), (1, 2), (2, 0))), Desk(3), "lot 3\n+-0", "system 3 2 +++", ((0, 1), (1, 2), (2, 0)), ((0, 1), (1, 3)),
+    ("signs", ()), ("odd", ()), ("levels", (0, 1, 2)), ("amounts", (1, 1, 1)), ("cut", "+0+"), ("simplex", "+++"),
+    ("products", (), (0, 1, 2, 3)), ("less", ((0, 1), (2, 3)), ((0, 2), (1, 3))), (((0, "+"),), ((1, "+"),)), (((0, "+"), (1, "-")),),
+    {(0, 1): 0, (0, 2): 0, (1, 2): 0}, {(False, True): 0}, ("open", "a"), ("upright", "r", "s"), "a", "abcdefgh", "abcdefghi",
 )
 
 
@@ -63,20 +72,15 @@ def error_of(call):
 
 def told_by(error):
     """The kind of an error and what it keeps."""
-    if isinstance(error, InvalidNumber):
-        return (InvalidNumber, error.value)
-    if isinstance(error, Refused):
-        return (Refused, error.reason)
-    if isinstance(error, TooMany):
-        return (TooMany, error.limit)
-    return (error.__class__, None)
+    kept = KEPT.get(error.__class__)
+    return (error.__class__, None if kept is None else getattr(error, kept))
 
 
 def keeps(error, kind, value):
     """Whether an error is just of this kind, and keeps the wrong value if it keeps one."""
     if error.__class__ is not kind:
         return False
-    return kind is not InvalidNumber or error.value is value
+    return kind not in (InvalidNumber, UnknownName) or getattr(error, KEPT[kind]) is value
 
 
 class Wrong:

@@ -1,12 +1,15 @@
-"""Every example of the document's stages 1 to 11, as it stands there."""
+"""Every example of the document, as it stands there."""
 
 import importlib
 import os
 import unittest
 
+from support import told_by
+
 PATH = os.path.join(os.path.dirname(os.path.abspath(__file__)), "examples.txt")
 MODULES = ("errors", "rows.rows", "table.tables", "system.rounds", "system.systems", "system.judging", "system.paintings",
-           "system.forms", "region.regions", "hull.hulls", "best.programs", "more.putting")
+           "system.forms", "region.regions", "hull.hulls", "best.programs", "more.putting", "place.general", "web.webs",
+           "web.twoelements", "order.activities", "draw.drawings", "draw.rings", "text.strings", "desk.desk")
 
 
 def examples():
@@ -42,14 +45,14 @@ class ExamplesTest(unittest.TestCase):
                     self.assertEqual(repr(eval(call, known)), repr(eval(expected[0], known)))
                 self.assertLessEqual(len(expected), 1)
             count += 1
-        self.assertEqual(count, 88)
+        self.assertEqual(count, 135)
 
     def check_raised(self, call, known, expected):
         name, _, told = expected.partition("(")
         with self.assertRaises(known[name]) as caught:
             eval(call, known)
         if told:
-            self.assertEqual(caught.exception.reason, eval(told[:-1], known))
+            self.assertEqual(told_by(caught.exception), (known[name], eval(told[:-1], known)))
 
 
 if __name__ == "__main__":

@@ -6,10 +6,12 @@ import unittest
 
 from sidesigns.errors import InvalidNumber, InvalidOperation, InvalidRow, InvalidTable
 from sidesigns.best.programs import Program
+from sidesigns.desk.desk import Desk
 from sidesigns.rows.rows import Lot, all_rows, laid_over, signs_at, spread, turned
 from sidesigns.system.rounds import bases_of, cuts_of, is_rounds_paper, rank_of, rounds_paper, taken_out
 from sidesigns.system.systems import System
 from sidesigns.table.tables import Table, determinant
+from sidesigns.web.webs import Web
 from support import error_of, told_by
 
 FUNCTIONS = {
@@ -48,8 +50,27 @@ FUNCTIONS = {
         "lines_of": "system", "line_ring": "system, line", "line_paper": "system, signs",
         "is_line_paper": "system, signs, value", "put_in": "system, signs", "signs_of_thing": "system, thing",
         "by_steps": "system, steps", "through": "system, one, other", "all_ways": "system"},
+    "sidesigns.place.general": {
+        "can_turn": "system, base", "turned_base": "system, base", "turn_paper": "system, base",
+        "is_turn_paper": "system, base, value", "simplexes": "system", "turning_row": "one, other",
+        "sign_tables": "many, rank", "table_count": "many, rank"},
+    "sidesigns.web.twoelements": {
+        "reduced": "many, rows", "rounds_over_two": "many, rows", "cuts_over_two": "many, rows", "signed_paper": "many, rows",
+        "is_signed_paper": "many, rows, value", "signing_count": "many, rows"},
+    "sidesigns.order.activities": {
+        "inner": "system, order, base", "outer": "system, order, base", "active_counts": "system, order",
+        "row_active": "system, order, row", "best_base": "system, order, region", "region_of": "system, order, base",
+        "best_bases": "system, order", "is_best": "system, order, region, value"},
+    "sidesigns.draw.drawings": {
+        "is_drawn_by": "system, table", "comparisons": "system", "weights_or_bar": "system, *, only=None",
+        "is_weights": "system, value, *, only=None", "is_bar": "system, value", "points_of": "system"},
+    "sidesigns.draw.rings": {
+        "ring_of": "system", "system_of_ring": "many, ring", "is_ring": "many, value", "ring_count": "many",
+        "does_balance": "many, ring, things", "ring_faces": "many, ring", "alternating": "many, rank",
+        "is_gap_even": "many, things", "even_lots": "many, size"},
+    "sidesigns.text.strings": {"write_value": "value", "read_value": "string"},
 }
-GENERATORS = {"all_rows", "paintings", "own_changes", "convex_lots", "free_lots", "all_ways"}
+GENERATORS = {"all_rows", "paintings", "own_changes", "convex_lots", "free_lots", "all_ways", "sign_tables"}
 METHODS = {
     ("sidesigns.rows.rows", "Lot"): {
         "__init__": "self, many, rows=()", "least": "self", "with_turned": "self", "turned_at": "self, things",
@@ -64,6 +85,15 @@ METHODS = {
     ("sidesigns.best.programs", "Program"): {
         "__init__": "self, system, far, goal", "feasible": "self", "answer": "self", "is_answer": "self, value",
         "starts": "self", "crossings": "self, base", "opposite": "self"},
+    ("sidesigns.web.webs", "Web"): {
+        "__init__": "self, places, ways", "pieces": "self", "turned_ways": "self, things", "way_paper": "self, way",
+        "is_way_paper": "self, way, value", "ringless_paper": "self", "is_ringless_paper": "self, value",
+        "around_paper": "self", "is_around_paper": "self, value", "ringless_count": "self", "around_count": "self"},
+    ("sidesigns.desk.desk", "Desk"): {
+        "__init__": "self, many", "keep": "self, name, item", "turn": "self, things", "drop": "self, name",
+        "promise": "self, label, promise", "let_go": "self, label", "undo": "self, *, times=1", "redo": "self, *, times=1",
+        "during": "self, call", "item": "self, name", "promised": "self, label", "broken_by": "self, name, item",
+        "twin": "self"},
 }
 CLASS_METHODS = {("sidesigns.system.systems", "System"): {"of_cuts": "cuts", "of_table": "table", "free": "many"}}
 PROPERTIES = {
@@ -72,6 +102,8 @@ PROPERTIES = {
     ("sidesigns.system.systems", "System"): ("many", "rank", "rounds", "cuts", "signs", "bases", "loops", "pillars", "alike",
                                              "is_simple", "is_open", "is_general"),
     ("sidesigns.best.programs", "Program"): ("system", "far", "goal", "sides"),
+    ("sidesigns.web.webs", "Web"): ("places", "ways", "system"),
+    ("sidesigns.desk.desk", "Desk"): ("many", "names", "labels", "deeds"),
 }
 OPERATORS = {
     ("sidesigns.rows.rows", "Lot"): ("__len__", "__iter__", "__contains__", "__eq__", "__or__", "__and__", "__sub__",
@@ -79,6 +111,8 @@ OPERATORS = {
     ("sidesigns.table.tables", "Table"): ("__len__", "__getitem__", "__iter__", "__eq__", "__str__"),
     ("sidesigns.system.systems", "System"): ("__invert__", "__add__", "__eq__", "__len__", "__str__"),
     ("sidesigns.best.programs", "Program"): ("__eq__", "__str__"),
+    ("sidesigns.web.webs", "Web"): ("__eq__", "__len__", "__str__"),
+    ("sidesigns.desk.desk", "Desk"): ("__contains__", "__len__", "__eq__", "__str__"),
 }
 CONSTANTS = {
     "sidesigns.rows.rows": {"MAX_THINGS": 9, "MAX_LAYINGS": 7000, "MAX_UPRIGHT": 7},
@@ -89,6 +123,12 @@ CONSTANTS = {
     "sidesigns.system.forms": {"MAX_FORMED": 6},
     "sidesigns.region.regions": {"MAX_REGIONS": 512},
     "sidesigns.more.putting": {"MAX_PAIRS": 15},
+    "sidesigns.place.general": {"MAX_ROW": 5, "MAX_COUNTED": 6},
+    "sidesigns.web.webs": {"MAX_PLACES": 8, "MAX_WAYS": 9, "MAX_AMOUNT": 100},
+    "sidesigns.web.twoelements": {"MAX_ROWS": 9},
+    "sidesigns.draw.drawings": {"MAX_COMPARED": 210},
+    "sidesigns.draw.rings": {"MAX_FORMED": 9},
+    "sidesigns.desk.desk": {"MAX_KEPT": 12, "MAX_PROMISES": 12},
 }
 
 
@@ -124,7 +164,8 @@ class NamesTest(unittest.TestCase):
                 self.assertEqual(str(inspect.signature(getattr(member(place), name))), f"({expected})")
 
     def test_properties(self):
-        objects = {"Lot": Lot(2), "Table": Table(2, ()), "System": System.free(2), "Program": Program(System.free(2), 0, 1)}
+        objects = {"Lot": Lot(2), "Table": Table(2, ()), "System": System.free(2), "Program": Program(System.free(2), 0, 1),
+                   "Web": Web(2, ((0, 1),)), "Desk": Desk(2)}
         for place, names in PROPERTIES.items():
             for name in names:
                 self.assertIn(name, vars(member(place)))

@@ -12,7 +12,8 @@ BUILTINS = set("""len range enumerate zip min max sum abs sorted reversed int st
 isinstance ord repr any all divmod Exception ValueError TypeError KeyError IndexError LookupError ZeroDivisionError
 ArithmeticError OverflowError RuntimeError NotImplementedError NotImplemented iter property staticmethod classmethod super
 """.split())
-GENERATORS = {"all_rows", "paintings", "own_changes", "convex_lots", "free_lots", "all_ways", "right_signs"}
+GENERATORS = {"all_rows", "paintings", "own_changes", "convex_lots", "free_lots", "all_ways", "right_signs",
+              "sign_tables"}
 LIBRARY = {"math": {"gcd", "lcm", "isqrt", "comb", "perm", "factorial"}}
 DUNDERS = set("""__init__ __eq__ __str__ __repr__ __len__ __iter__ __contains__ __getitem__ __or__ __and__ __sub__ __add__
 __invert__""".split())
@@ -59,9 +60,11 @@ def bound_names(tree):
 
 
 def is_plain(node):
-    """Whether a value is a constant, or a dict of constants."""
+    """Whether a value is a constant, or a tuple or a dict of such."""
     if isinstance(node, ast.Dict):
         return all(is_plain(one) and not isinstance(one, ast.Dict) for one in node.keys + node.values)
+    if isinstance(node, ast.Tuple):
+        return all(is_plain(one) and not isinstance(one, ast.Dict) for one in node.elts)
     if isinstance(node, ast.UnaryOp):
         return isinstance(node.op, ast.USub) and is_plain(node.operand)
     return isinstance(node, ast.Constant)

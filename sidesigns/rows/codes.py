@@ -59,6 +59,27 @@ def has_within(whole, parts):
     return False
 
 
+def least_masks(masks):
+    """Those of some masks other than 0 that have no other one of them within."""
+    least = []
+    for mask in sorted([one for one in masks if one != 0], key=size_of):
+        if not has_within(mask, least):
+            least.append(mask)
+    return least
+
+
+def joined_masks(masks):
+    """The masks that come of joining those of some that have common bits."""
+    joined = []
+    for mask in masks:
+        whole = mask
+        for other in joined:
+            if other & mask != 0:
+                whole = whole | other
+        joined = [other for other in joined if other & mask == 0] + [whole]
+    return joined
+
+
 def mask_of_things(things):
     """The bits of some things."""
     mask = 0

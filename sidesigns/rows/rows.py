@@ -2,7 +2,8 @@
 
 from sidesigns.errors import InvalidLot, InvalidNumber, InvalidOperation, InvalidRow, TooMany
 from sidesigns.integers import is_between
-from sidesigns.rows.codes import LOW, both_signs, code_of, mask_of, rows_by_code, rows_of, size_of, turned_code
+from sidesigns.rows.codes import (LOW, both_signs, code_of, least_masks, mask_of, rows_by_code, rows_of, size_of,
+                                  turned_code)
 from sidesigns.rows.signs import turned_signs
 from sidesigns.things import is_ascending
 
@@ -132,18 +133,6 @@ def all_rows(many):
     yield from rows
 
 
-def _least_masks(masks):
-    """Those of some masks other than 0 that have no other one of them within."""
-    return [mask for mask in masks if not _has_within(mask, masks)]
-
-
-def _has_within(mask, masks):
-    for other in masks:
-        if other != mask and other & mask == other:
-            return True
-    return False
-
-
 def _laid_codes(codes):
     """The codes of all layings of rows, with that of the zero row."""
     # What is laid over the layings of one lot of things has more things, and a
@@ -249,8 +238,7 @@ class Lot:
     def least(self):
         """The lot of the least rows: but for the zero row none lies within another."""
         masks = {row: mask_of(code_of(row)) for row in self._rows}
-        kinds = {mask: True for mask in masks.values() if mask != 0}
-        least = _least_masks(list(kinds))
+        least = least_masks(list({mask: True for mask in masks.values()}))
         return Lot(self._many, tuple([row for row in self._rows if masks[row] in least]))
 
     def with_turned(self):

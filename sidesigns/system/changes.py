@@ -1,5 +1,6 @@
 """Changes of names and signs, worked out over the base signs of systems."""
 
+from sidesigns.parity import cleared, first_bit, solution
 from sidesigns.rows.basesigns import signs_by_lot
 from sidesigns.rows.codes import mask_of_things
 from sidesigns.system.ranks import things_in
@@ -55,45 +56,23 @@ def equation(many, mask, sign, goal):
 
 def _sign_put(pivots, line, many):
     """The sign that a lot gets: "+" if the turns can still be so."""
-    rest = _cleared(pivots, line)
+    rest = cleared(pivots, line)
     if rest & (1 << many + 1) - 1 != 0:
-        pivots[_first_bit(rest)] = rest
+        pivots[first_bit(rest)] = rest
         return "+"
     return "+" if rest == 0 else "-"
-
-
-def _first_bit(line):
-    return line & -line
-
-
-def _cleared(pivots, line):
-    for bit, other in pivots.items():
-        if line & bit != 0:
-            line = line ^ other
-    return line
 
 
 def turned_things(many, lines):
     """Things that can be turned so that some equations hold, or None."""
     pivots = {}
     for line in lines:
-        rest = _cleared(pivots, line)
+        rest = cleared(pivots, line)
         if rest == 1 << many + 1:
             return None
         if rest != 0:
-            pivots[_first_bit(rest)] = rest
-    return things_in(_solution(pivots, many) & (1 << many) - 1)
-
-
-def _solution(pivots, many):
-    """The turns that the equations tell, if all that they leave free are none."""
-    turns = 0
-    for bit in reversed(list(pivots)):
-        rest = pivots[bit] & ~bit
-        count = f"{rest & turns:b}".count("1") + (rest >> many + 1)
-        if count % 2 == 1:
-            turns = turns | bit
-    return turns
+            pivots[first_bit(rest)] = rest
+    return things_in(solution(pivots, many + 1) & (1 << many) - 1)
 
 
 def things_to_turn(one, other, order):

@@ -148,15 +148,25 @@ class Table:
     def upright_table(self):
         """The table whose rounds are the cuts of this one, and the other way round."""
         sums = dependences([self._column(thing) for thing in range(self._many)])
-        # The integers can be longer than those that callers may pass.
-        made = Table(self._many, ())
-        made._tell(self._many, tuple([factors for factors in sums if factors is not None]))
-        return made
+        return _table_of(self._many, tuple([factors for factors in sums if factors is not None]))
 
     def is_alike(self, other):
         """Whether both tables have equally many things and equal rounds."""
         check_table(other)
         return self._rounds == other.rounds
+
+
+def _table_of(many, rows):
+    """The table with rows of integers that can be longer than those that callers may pass."""
+    made = Table(many, ())
+    made._tell(many, rows)
+    return made
+
+
+def turned_table(table, things):
+    """The table with the signs of all integers turned in the columns of some things."""
+    rows = [tuple([-value if at in things else value for at, value in enumerate(row)]) for row in table.rows]
+    return _table_of(table.many, tuple(rows))
 
 
 def _weighted(weights, column):

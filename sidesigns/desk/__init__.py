@@ -1,0 +1,1 @@
+"""Desks with items and promises."""

@@ -1,0 +1,1 @@
+"""Orders of the things, and what they make active."""

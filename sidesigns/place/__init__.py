@@ -1,0 +1,1 @@
+"""Systems in general place."""

@@ -1,0 +1,1 @@
+"""Webs of ways, and tables over two elements."""
