@@ -125,6 +125,48 @@ class Wrong:
             case.assertTrue(keeps(error, kind, value), (self.call, told, error))
 
 
+def variants(value):
+    """Values that are nearly a told one: with other members, with more and fewer, of another kind."""
+    if isinstance(value, bool) or value is None:
+        return [not value, int(bool(value))]
+    if isinstance(value, int):
+        return [value + 1, -value, str(value), (value,)] + ([bool(value)] if value in (0, 1) else [])
+    if isinstance(value, str):
+        return [value + " ", value[:-1], value + "+", opposite(value) if is_row(value) else value.upper(), (value,), [value]]
+    if isinstance(value, tuple):
+        found = [list(value), value[:-1], value + value[-1:], value + (None,), value[::-1], dict(enumerate(value))]
+        for at, member in enumerate(value):
+            found.extend(value[:at] + (other,) + value[at + 1:] for other in [*variants(member), *POOL[::3]])
+        return found
+    found = [list(value), list(value.items()), {**value, "x": 1}, {**value, (0, 0): 1}]
+    for key, member in value.items():
+        rest = {other: worth for other, worth in value.items() if other != key}
+        found.append(rest)
+        found.extend({**rest, key: other} for other in [*variants(member), *POOL[::7]])
+        found.extend({**rest, other: member} for other in variants(key) if is_hashed(other))
+    return found
+
+
+def is_hashed(value):
+    return error_of(lambda: hash(value)) is None
+
+
+def check_judged(case, judge, right, is_right, step=1):
+    """Some right values are right, and of all that are nearly so just those of which a test says so."""
+    for value in right:
+        case.assertIs(judge(value), True, value)
+        for other in variants(value)[::step]:
+            case.assertIs(judge(other), is_right(other), (value, other))
+    for value in POOL:
+        case.assertIs(judge(value), is_right(value), value)
+
+
+def among(right):
+    """The test whether a value is one of some others, where True is not 1."""
+    told = {repr(value) for value in right}
+    return lambda value: repr(value) in told
+
+
 def rows_of(many):
     return ["".join(signs) for signs in product("+-0", repeat=many)]
 

@@ -39,7 +39,7 @@ def _comparisons(system):
     found = []
     for lot in lots_of(system.many, system.rank - 2):
         for four in lots_among(others_than(lot, system.many), 4):
-            found = found + _told_by_products(numbers, lot, four)
+            found.extend(_told_by_products(numbers, lot, four))
     return sorted(found)
 
 
