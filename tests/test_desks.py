@@ -580,7 +580,7 @@ class ErrorsTest(unittest.TestCase):
                  ("round", ("a",), "r"), ("cut", "a", 1), ("view", "a", ""), ("upright", "r"), ("opposite", "a", "b", "c"), ("drawn", "a", LINE),
                  ("hull", "a", (0, 2)), ("hull", "a", (2, 0), 1), ("hull", "a", [0, 2], 1), ("hull", "a", (0, 4), 1), ("hull", "a", (0, 2), 4),
                  ("hull", "a", (0, 2), -1), ("hull", "a", (0, 2), True), ("hull", "a", (False,), 1), ("hull", "a", (0, 2), None),
-                 ("hull", "a", (0, 2), 1, 1), ("hull", (0, 2), "a", 1), ("best", "a", 0, 0, "best"), ("best", "a", 0, 4, "best"),
+                 ("hull", "a", (0, 2), 1, 1), ("hull", (0, 2), "a", 1), ("best", "a", 0, 0, "best"), ("best", "a", 0, 4, "best"), ("best", "a", 4, 0, "best"),
                  ("best", "a", -1, 0, "best"), ("best", "a", False, 1, "best"), ("best", "a", 0, True, "best"), ("best", "a", 0, 1, "ray"),
                  ("best", "a", 0, 1, None), ("best", "a", 0, 1, ["best"]), ("best", "a", 0, 1), ("best", "a", 0, 1, "best", 0), (None, "a"),
                  ("", "a"), (["open"], "a"), "open", None, {"open": "a"}, (LINE, "a"), ("member",), ("best", "a", "0", 1, "none"))
@@ -589,6 +589,10 @@ class ErrorsTest(unittest.TestCase):
             self.assertFalse(is_promise(promise, 4))
         for promise in (("open", "a"), ("hull", "a", (), 3), ("hull", "a", (0, 1, 2, 3), 0), ("best", "a", 3, 0, "none")):
             self.assertEqual(told_by(error_of(lambda: desk.promise("p", promise))), (UnknownName, "a"))
+
+    def test_things_of_an_empty_desk(self):
+        for things in ((4,), (1, 0), [0], None, (True,), (-1,), 0, (0, 0)):
+            self.assertEqual(error_of(lambda: Desk(4).turn(things)).__class__, InvalidOperation)
 
     def test_times(self):
         desk = Desk(4)

@@ -272,6 +272,14 @@ class JudgedTest(unittest.TestCase):
             check_judged(self, lambda one: is_weights(system, one, only=looked[:1]), [weights_or_bar(system)[1]],
                          lambda one: are_weights(system, one, looked[:1]))
 
+    def test_weights_of_others_than_bases(self):
+        for system in (LINE, MIXED, PLANE):
+            right = weights_or_bar(system)[1]
+            for key in ((), (0,), (0, 1, 2), (0, 1, 2, 3), (2, 3, 4), (0, 3), "a", 0, None):
+                if key not in right:
+                    self.assertIs(is_weights(system, {**right, key: 0}), False)
+                    self.assertIs(is_weights(system, {**dict(list(right.items())[1:]), key: 0}), False)
+
     def test_all_small_weights(self):
         looked = comparisons(LINE)
         for weights in product((-1, 0, 1), repeat=6):
@@ -331,7 +339,7 @@ class ErrorsTest(unittest.TestCase):
         wrong = ((other, one), (one, one), [one], (list(one),), (one, None), ((word, pair),), ((word, pair, great, 1),), one,
                  (("equal", pair, great),), ((word, great, pair),), ((word, pair[::-1], great),), ((word, list(pair), great),),
                  ((word, ([0, 1], (2, 3)), great),), ((word, ((False, True), (2, 3)), great),), {one: 1}, "less", 0, False,
-                 ((word, ((0, 1), (2, 3), (0, 1)), great),), ((None, pair, great),), (comparisons(PLANE)[0],), ((word, pair, pair),))
+                 ((word, ((0, 1), (2, 3), (0, 1)), great),), ((None, pair, great),), (([], pair, great),), (({}, pair, great),), (comparisons(PLANE)[0],), ((word, pair, pair),))
         for only in wrong:
             for call in (lambda: weights_or_bar(LINE, only=only), lambda: is_weights(LINE, None, only=only)):
                 self.assertEqual(error_of(call).__class__, InvalidOperation, only)

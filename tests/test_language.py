@@ -20,6 +20,10 @@ __invert__""".split())
 UNUSED = set("register mro elements open input law version_info with_traceback add_note format format_map".split())
 WORDS = re.compile(r"\b(type|typing|typing_extensions|enum|Enum|IntEnum|StrEnum|Flag|IntFlag|Generic|Protocol|ABC|ABCMeta|"
                    r"namedtuple|NamedTuple|TypedDict|TYPE_CHECKING|abstractmethod)\b|dataclass|overload|contextmanager")
+BARRED_NAMES = re.compile(r"_(wall|WallAttr|pe_|dcw_|enum_|cm_|twin_re_|lay_|law_|stub_|sre)|"
+                          r"_(cold|tuplegetter|outside|record|written_out|member_names)[0-9_]*$")
+# Names that values of Python's own have as methods.
+GIVEN = {name for value in (0, "", b"", [], {}, (), set()) for name in dir(value)}
 BARRED = (ast.AsyncFunctionDef, ast.AsyncFor, ast.AsyncWith, ast.Await, ast.Global, ast.Div)
 
 
@@ -176,6 +180,7 @@ class TreeTest(unittest.TestCase):
             self.assertFalse(defined & given, path)
             for name in defined:
                 self.assertTrue(name in DUNDERS or re.fullmatch(r"_?[A-Za-z][A-Za-z0-9_]*|_", name), (path, name))
+                self.assertIsNone(BARRED_NAMES.match(name), (path, name))
                 self.assertNotIn(name, UNUSED, path)
             imported = {name.name for node in ast.walk(tree) if isinstance(node, ast.ImportFrom) for name in node.names}
             for node in ast.walk(tree):
@@ -222,6 +227,37 @@ class TreeTest(unittest.TestCase):
             for method in node.body:
                 if isinstance(method, ast.FunctionDef) and method.name.startswith("__"):
                     self.assertIn(method.name, DUNDERS, path)
+    def test_methods_and_attributes(self):
+        properties, stored = set(), set()
+        for path, node in nodes(ast.ClassDef):
+            methods = {one.name for one in node.body if isinstance(one, ast.FunctionDef)}
+            own = {one.attr for one in ast.walk(node) if isinstance(one, ast.Attribute) and isinstance(one.ctx, ast.Store)}
+            self.assertFalse(methods & own, path)
+            self.assertFalse(methods & GIVEN - DUNDERS, path)
+            properties |= {one.name for one in node.body if isinstance(one, ast.FunctionDef) and one.decorator_list}
+            stored |= own
+        self.assertFalse((properties | GIVEN) & stored - {"index"})
+
+    def test_double_underscore_methods(self):
+        """L28: the returns of these, and the last statement."""
+        for path, node in nodes(ast.FunctionDef):
+            if node.name in ("__len__", "__str__"):
+                self.assertIsInstance(node.body[-1], ast.Return, path)
+                told = node.body[-1].value
+                if node.name == "__len__":
+                    self.assertEqual(told.func.id, "len")
+                elif not isinstance(told, ast.JoinedStr):
+                    self.assertEqual((told.func.attr, told.func.value.__class__), ("join", ast.Constant))
+
+    def test_finally(self):
+        """L6: only names and attributes are assigned there."""
+        for path, node in nodes(ast.Try):
+            for one in node.finalbody:
+                self.assertIsInstance(one, ast.Assign)
+                for part in ast.walk(one):
+                    self.assertIsInstance(part, (ast.Assign, ast.Tuple, ast.Name, ast.Attribute, ast.Load, ast.Store), path)
+
+    def test_errors(self):
         for path, node in nodes(ast.Raise):
             self.assertIsInstance(node.exc, ast.Call, path)
             self.assertRegex(node.exc.func.id, r"^[A-Z]", path)

@@ -260,6 +260,20 @@ class SignedTest(unittest.TestCase):
         self.assertIs(is_signed_paper(7, SEVEN, ("odd", joined)), True)
         self.assertIs(is_signed_paper(7, SEVEN, ("odd", tuple(sorted(set(one) ^ set(other))))), False)
 
+    def test_common_things_that_are_no_links(self):
+        """A round and a cut with none or four common things are none, even beside an odd lot."""
+        _, links = signed_paper(7, SEVEN)
+        others = [(one, other, tuple(sorted(set(one) & set(other)))) for one in plain_rounds(7, SEVEN) for other in plain_cuts(7, SEVEN)]
+        others = [link for link in others if len(link[2]) != 2]
+        self.assertEqual({len(link[2]) for link in others}, {0, 4})
+        for link in others:
+            for lot in ((link,), tuple(sorted(set(links) | {link})), tuple(sorted(set(links[1:]) | {link}))):
+                self.assertIs(is_signed_paper(7, SEVEN, ("odd", lot)), False)
+        for many, rows in SMALL[-1:] + WEBBED:
+            for one, other in product(plain_rounds(many, rows), plain_cuts(many, rows)):
+                common = tuple(sorted(set(one) & set(other)))
+                self.assertIs(is_signed_paper(many, rows, ("odd", ((one, other, common),))), False)
+
     def test_no_odd_lot_where_signs_are(self):
         """Even lots of links are none, and links of other tables are none."""
         many, rows = WEBBED[0]

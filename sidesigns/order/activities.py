@@ -93,7 +93,8 @@ def _is_best_base(system, order, region, base):
     for thing, row in enumerate(_rows_of_base(system, base)):
         if thing != order[0]:
             low = _lowest(row, order)
-            if low == thing or (row[low] == row[thing]) == (region[low] == region[thing]):
+            # This fails, too, where the thing itself is the lowest one.
+            if (row[low] == row[thing]) == (region[low] == region[thing]):
                 return False
     return True
 

@@ -3,7 +3,7 @@
 from sidesigns.errors import InvalidNumber, InvalidSystem, Refused, TooMany
 from sidesigns.integers import is_between
 from sidesigns.papers import is_told
-from sidesigns.place.signtests import (all_general_signs, first_barring, is_barring, signs_turned_at, turns_from,
+from sidesigns.place.signturns import (all_general_signs, first_barring, is_barring, signs_turned_at, turns_from,
                                        ways_between)
 from sidesigns.rows.codes import both_signs, code_of
 from sidesigns.system.checks import check_base
@@ -47,11 +47,11 @@ def turn_paper(system, base):
     barring = first_barring(system.many, system.rank, system.signs, base)
     if barring is not None:
         return ("products", *barring)
-    walls = _walls_of_simplexes(system)
+    walls = _simplex_walls(system)
     return ("simplex", [region for region in walls if walls[region] == base][0])
 
 
-def _walls_of_simplexes(system):
+def _simplex_walls(system):
     """The ascending simplexes, each with its walls."""
     codes = {code_of(row): row for row in system.regions().rows}
     found = {}
@@ -66,7 +66,7 @@ def is_turn_paper(system, base, value):
     """Whether the value is a right paper on whether a base can be turned."""
     _check_turn(system, base)
     if is_told(value, "simplex", 2):
-        walls = _walls_of_simplexes(system)
+        walls = _simplex_walls(system)
         return isinstance(value[1], str) and walls.get(value[1], ()) == base
     if is_told(value, "products", 3):
         return _are_products(system, base, value[1], value[2])
@@ -74,13 +74,12 @@ def is_turn_paper(system, base, value):
 
 
 def _are_products(system, base, lot, four):
-    """Whether a lot and four things of which two are in the base bar that it is turned."""
+    """Whether a lot and four other things bar that a base is turned."""
     if not is_ascending(lot, system.many) or not is_ascending(four, system.many):
         return False
     if len(lot) != system.rank - 2 or len(four) != 4 or any([thing in lot for thing in four]):
         return False
-    if any([thing not in base for thing in lot]) or any([thing not in lot + four for thing in base]):
-        return False
+    # A base that is not of the lot and two of the four stands in none of their products, so it breaks none.
     return is_barring(numbers_by_mask(system.many, system.rank, system.signs), base, lot, four)
 
 
@@ -88,7 +87,7 @@ def simplexes(system):
     """The ascending tuple of all simplexes."""
     check_system(system)
     _check_place(system)
-    return tuple(list(_walls_of_simplexes(system)))
+    return tuple(list(_simplex_walls(system)))
 
 
 def turning_row(one, other):

@@ -164,5 +164,4 @@ class Web:
         return len(self._ways)
 
     def __str__(self):
-        told = [f" {first}-{last}" for first, last in self._ways]
-        return f"web of {self._places} places:" + "".join(told)
+        return " ".join([f"web of {self._places} places:", *[f"{first}-{last}" for first, last in self._ways]])
