@@ -100,6 +100,16 @@ class DrawnTest(unittest.TestCase):
             self.assertIs(is_drawn_by(~System.of_table(table), other), True)
             self.assertIs(is_drawn_by(System.of_table(table), other), table.rounds == other.rounds)
 
+    def test_tables_with_rows_that_depend(self):
+        for table in some_tables(5, 3, 3)[::4] + some_tables(4, 2, 5)[::4]:
+            system = System.of_table(table)
+            total = tuple(sum(row[at] for row in table.rows) for at in range(table.many))
+            for rows in ((total,) + table.rows, table.rows + (total, total), ((0,) * table.many,) + table.rows,
+                         tuple(tuple(-3 * one for one in row) for row in table.rows[::-1])):
+                self.assertIs(is_drawn_by(system, Table(table.many, rows)), True)
+            turned = tuple((-row[0],) + row[1:] for row in table.rows)
+            self.assertIs(is_drawn_by(system, Table(table.many, turned)), system.turned_at((0,)) == system)
+
     def test_values(self):
         """[15.1]: the products P, Q and R of a table."""
         for table in some_tables(6, 3, 11)[:6] + [curve(6, 4)]:

@@ -22,7 +22,7 @@ def all_tables(many, height):
 
 
 SMALL = [table for many in range(5) for height in range(3) for table in all_tables(many, height)]
-SMALL += [table for many in range(4) for table in all_tables(many, 3)] + all_tables(4, 3)[::11]
+SMALL += [table for many in range(4) for table in all_tables(many, 3)] + all_tables(4, 3)[::11] + all_tables(4, 4)[4680::6553]
 
 
 def picked(many, height, step):
@@ -215,7 +215,10 @@ class SignedTest(unittest.TestCase):
 
     def test_all_signings(self):
         """[13.9], [13.11], over all choices of signs."""
-        for many, table in distinct(SMALL) + [table for table in distinct(GREAT) if sum(map(sum, table[1])) <= 9]:
+        small = distinct(SMALL + all_tables(4, 3) + all_tables(4, 4)[::97])
+        # All tables of at most four things, but for changes of their rows that keep the sums.
+        self.assertEqual([len([one for one in small if one[0] == many]) for many in range(5)], [1, 2, 5, 16, 67])
+        for many, table in small + [table for table in distinct(GREAT) if sum(map(sum, table[1])) <= 9]:
             rows = table[::-1]
             choices = signed_choices(table)
             right = [one for one in choices if is_signing(table, one)]
