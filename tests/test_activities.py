@@ -25,7 +25,8 @@ CASES += [(system, order) for system in FOUR[::4] for order in orders_of(system,
 CASES += [(system, (2, 0, 3, 1)) for system in FOUR]
 MORE = [(system, order) for system in FIVE[::9] + COLUMNED[::40] + [PLANE, LINE, MIXED] for order in orders_of(system, 3)]
 MORE += [(system, order) for system in SIX[::5] + CURVES[::4] for order in orders_of(system, 2)]
-GREAT = [(System.of_table(curve(9, 4)), (3, 8, 1, 0, 7, 6, 2, 5, 4)), (bent(), (8, 7, 6, 5, 4, 3, 2, 1, 0)), (eight(), (4, 0, 1, 7, 2, 6, 5, 3))]
+GREAT = [(System.of_table(curve(9, 4)), (3, 8, 1, 0, 7, 6, 2, 5, 4)), (bent(), (8, 7, 6, 5, 4, 3, 2, 1, 0)),
+         (eight(), (4, 0, 1, 7, 2, 6, 5, 3))]
 
 
 def lowest(row, order):
@@ -123,8 +124,10 @@ class ActiveTest(unittest.TestCase):
             led = {thing: at for at, thing in enumerate(names)}
             for base in system.bases:
                 led_base, led_order = tuple(sorted(led[one] for one in base)), tuple(led[one] for one in order)
-                self.assertEqual(inner(other, led_order, led_base), tuple(sorted(led[one] for one in inner(system, order, base))))
-                self.assertEqual(outer(other, led_order, led_base), tuple(sorted(led[one] for one in outer(system, order, base))))
+                self.assertEqual(inner(other, led_order, led_base),
+                                 tuple(sorted(led[one] for one in inner(system, order, base))))
+                self.assertEqual(outer(other, led_order, led_base),
+                                 tuple(sorted(led[one] for one in outer(system, order, base))))
 
     def test_of_rows(self):
         """[14.3]."""
@@ -236,10 +239,13 @@ class ErrorsTest(unittest.TestCase):
             Wrong(call, (LINE, order, "++--"), (is_system, is_order, is_region)).check(self)
 
     def test_orders(self):
-        for order in ((), (0, 1, 2), (0, 1, 2, 2), (0, 1, 2, 4), (0, 1, 2, 3, 4), [0, 1, 2, 3], (0, True, 2, 3), (0, 1, 2, -1), "0123",
+        for order in ((), (0, 1, 2), (0, 1, 2, 2), (0, 1, 2, 4), (0, 1, 2, 3, 4), [0, 1, 2, 3], (0, True, 2, 3),
+                      (0, 1, 2, -1), "0123",
                       (0, 1, 2, None), {0: 0, 1: 1, 2: 2, 3: 3}, (False, 1, 2, 3), (0, 1, 2, (3,))):
-            for call in (lambda: inner(LINE, order, (0, 9)), lambda: outer(LINE, order, (0, 9)), lambda: active_counts(LINE, order),
-                         lambda: row_active(LINE, order, "x"), lambda: best_base(LINE, order, "x"), lambda: region_of(LINE, order, ()),
+            for call in (lambda: inner(LINE, order, (0, 9)), lambda: outer(LINE, order, (0, 9)),
+                         lambda: active_counts(LINE, order),
+                         lambda: row_active(LINE, order, "x"), lambda: best_base(LINE, order, "x"),
+                         lambda: region_of(LINE, order, ()),
                          lambda: best_bases(LINE, order), lambda: is_best(LINE, order, "x", None)):
                 self.assertEqual(error_of(call).__class__, InvalidOrder)
 

@@ -169,30 +169,36 @@ class ModelTest(unittest.TestCase):
 
     def test_all_rows_of_four_deeds(self):
         """[18.3], over all rows of four deeds of some kinds, behind two deeds."""
-        kinds = (("keep", "r", "+-+0"), ("keep", "r", "+--0"), ("turn", (1,)), ("drop", "r"), ("promise", "p", ("round", "a", "r")),
+        kinds = (("keep", "r", "+-+0"), ("keep", "r", "+--0"), ("turn", (1,)), ("drop", "r"),
+                 ("promise", "p", ("round", "a", "r")),
                  ("let_go", "p"), ("undo", 1), ("redo", 1), ("undo", 2))
         start = (("keep", "a", LINE), ("keep", "r", "+-+0"))
         for deeds in product(kinds, repeat=4):
             self.check_deeds(start + deeds)
 
     def test_rows_of_five_deeds(self):
-        kinds = (("keep", "a", LINE), ("keep", "a", LINE.turned_at((2,))), ("promise", "q", ("open", "a")), ("undo", 1), ("redo", 2), ("turn", (2,)))
+        kinds = (("keep", "a", LINE), ("keep", "a", LINE.turned_at((2,))), ("promise", "q", ("open", "a")), ("undo", 1),
+                 ("redo", 2), ("turn", (2,)))
         for deeds in product(kinds, repeat=5):
             self.check_deeds(deeds)
 
     def test_long_rows(self):
-        pool = [("keep", name, item) for name in ("a", "b", "r", "s") for item in (LINE, ~LINE, LINE.turned_at((0,)), "+-+0", "-+00", "0000")]
-        pool += [("turn", things) for things in ((), (0,), (1, 3), (0, 1, 2, 3))] + [("drop", name) for name in ("a", "b", "r", "z")]
+        items = (LINE, ~LINE, LINE.turned_at((0,)), "+-+0", "-+00", "0000")
+        promises = (("round", "a", "r"), ("cut", "b", "r"), ("view", "a", "s"), ("upright", "r", "s"), ("opposite", "a", "b"),
+                    ("open", "b"), ("hull", "a", (0, 2), 1), ("best", "a", 0, 3, "endless"), ("best", "b", 1, 2, "best"))
+        pool = [("keep", name, item) for name in ("a", "b", "r", "s") for item in items]
+        pool += [("turn", things) for things in ((), (0,), (1, 3), (0, 1, 2, 3))]
+        pool += [("drop", name) for name in ("a", "b", "r", "z")]
         pool += [("keep", "t", POINTS), ("keep", "t", POINTS.upright_table()), ("promise", "p", ("drawn", "a", "t"))]
-        pool += [("promise", label, promise) for label in ("p", "q") for promise in (
-            ("round", "a", "r"), ("cut", "b", "r"), ("view", "a", "s"), ("upright", "r", "s"), ("opposite", "a", "b"), ("open", "b"),
-            ("hull", "a", (0, 2), 1), ("best", "a", 0, 3, "endless"), ("best", "b", 1, 2, "best"))]
-        pool += [("let_go", label) for label in ("p", "q", "a")] + [("undo", 1), ("undo", 3), ("redo", 1), ("redo", 2), ("undo", 0)]
+        pool += [("promise", label, promise) for label in ("p", "q") for promise in promises]
+        pool += [("let_go", label) for label in ("p", "q", "a")]
+        pool += [("undo", 1), ("undo", 3), ("redo", 1), ("redo", 2), ("undo", 0)]
         for start in range(60):
             self.check_deeds([pool[(start * 31 + at * at * (start + 2) + at * 5) % len(pool)] for at in range(60)])
 
     def test_undo_and_redo(self):
-        deeds = [("keep", "a", LINE), ("keep", "r", "+-+0"), ("promise", "p", ("round", "a", "r")), ("turn", (0, 2)), ("let_go", "p"), ("drop", "r")]
+        deeds = [("keep", "a", LINE), ("keep", "r", "+-+0"), ("promise", "p", ("round", "a", "r")), ("turn", (0, 2)),
+                 ("let_go", "p"), ("drop", "r")]
         desk = Desk(4)
         states = [state(desk)]
         for deed in deeds:
@@ -224,7 +230,8 @@ class ModelTest(unittest.TestCase):
 
     def test_deeds_that_change_nothing(self):
         desk = Desk(4)
-        self.assertEqual([desk.turn(()), desk.keep("a", LINE), desk.keep("a", LINE), desk.turn(()), desk.deeds], [1, 2, 3, 4, 4])
+        self.assertEqual([desk.turn(()), desk.keep("a", LINE), desk.keep("a", LINE), desk.turn(()), desk.deeds],
+                         [1, 2, 3, 4, 4])
         self.assertEqual([desk.undo(), desk.undo(), "a" in desk, desk.undo(), "a" in desk], [3, 2, True, 1, False])
 
 
@@ -295,7 +302,8 @@ class PromisesTest(unittest.TestCase):
     def test_names_that_are_not_kept(self):
         desk = Desk(4)
         desk.keep("a", LINE)
-        for promise, name in ((("round", "a", "r"), "r"), (("round", "b", "r"), "b"), (("open", "z"), "z"), (("drawn", "a", "t"), "t"),
+        for promise, name in ((("round", "a", "r"), "r"), (("round", "b", "r"), "b"), (("open", "z"), "z"),
+                              (("drawn", "a", "t"), "t"),
                               (("upright", "x", "y"), "x"), (("best", "q", 0, 1, "none"), "q"), (("hull", "h", (), 0), "h"),
                               (("opposite", "a", "c"), "c")):
             self.assertEqual(told_by(error_of(lambda: desk.promise("p", promise))), (UnknownName, name))
@@ -306,9 +314,11 @@ class PromisesTest(unittest.TestCase):
         cut = LINE.cuts.rows[0]
         for things in all_things(4):
             desk = Desk(4)
-            for name, item in (("a", LINE), ("b", ~LINE), ("t", POINTS), ("r", "+-+0"), ("c", cut), ("v", "++--"), ("u", POINTS.upright_table())):
+            for name, item in (("a", LINE), ("b", ~LINE), ("t", POINTS), ("r", "+-+0"), ("c", cut), ("v", "++--"),
+                               ("u", POINTS.upright_table())):
                 desk.keep(name, item)
-            for label, promise in (("x", ("round", "a", "r")), ("y", ("cut", "a", "c")), ("z", ("view", "a", "v")), ("u", ("upright", "r", "v")),
+            for label, promise in (("x", ("round", "a", "r")), ("y", ("cut", "a", "c")), ("z", ("view", "a", "v")),
+                                   ("u", ("upright", "r", "v")),
                                    ("o", ("opposite", "b", "a")), ("t", ("drawn", "a", "t")), ("w", ("drawn", "b", "u"))):
                 desk.promise(label, promise)
             count = desk.deeds
@@ -339,7 +349,8 @@ class PromisesTest(unittest.TestCase):
         desk = Desk(4)
         for name, item in (("a", LINE), ("r", "+-+0"), ("s", "0000")):
             desk.keep(name, item)
-        for label, promise in (("p", ("round", "a", "r")), ("c", ("upright", "r", "s")), ("q", ("open", "a")), ("b", ("view", "a", "s"))):
+        for label, promise in (("p", ("round", "a", "r")), ("c", ("upright", "r", "s")), ("q", ("open", "a")),
+                               ("b", ("view", "a", "s"))):
             desk.promise(label, promise)
         before = state(desk)
         for name in ("a", "r", "s", "new"):
@@ -376,7 +387,8 @@ class PromisesTest(unittest.TestCase):
 class DuringTest(unittest.TestCase):
     def filled(self):
         desk = Desk(4)
-        for deed in (("keep", "a", LINE), ("keep", "r", "+-+0"), ("promise", "p", ("round", "a", "r")), ("turn", (0,)), ("turn", (1,))):
+        for deed in (("keep", "a", LINE), ("keep", "r", "+-+0"), ("promise", "p", ("round", "a", "r")), ("turn", (0,)),
+                     ("turn", (1,))):
             run(desk, deed)
         desk.undo(times=2)
         return desk
@@ -400,8 +412,10 @@ class DuringTest(unittest.TestCase):
             desk.during(lambda one: one.keep("y", LINE))
             return desk.names
         calls = ((lambda desk: desk.let_go("p"), 4), (lambda desk: desk.redo(times=2), 5), (lambda desk: desk.undo(times=3), 0),
-                 (go_on, ("z",)), (lambda desk: None, None), (lambda desk: desk.turn((2,)), 4), (len, 2), (lambda desk: desk.drop("a"), (Refused, ("promise", "p"))),
-                 (fail, (KeyError, None)), (lambda desk: desk.undo(times=9), (NothingToUndo, 9)), (lambda desk: desk.during(fail), (KeyError, None)),
+                 (go_on, ("z",)), (lambda desk: None, None), (lambda desk: desk.turn((2,)), 4), (len, 2),
+                 (lambda desk: desk.drop("a"), (Refused, ("promise", "p"))),
+                 (fail, (KeyError, None)), (lambda desk: desk.undo(times=9), (NothingToUndo, 9)),
+                 (lambda desk: desk.during(fail), (KeyError, None)),
                  (lambda desk: desk.keep(None, 1), (InvalidOperation, None)))
         for call, expected in calls:
             desk = self.filled()
@@ -443,7 +457,8 @@ class ClassTest(unittest.TestCase):
         desk.keep("abcdefgh", LINE)
         desk.keep("t", POINTS)
         desk.promise("z", ("drawn", "abcdefgh", "t"))
-        self.assertEqual((desk.item("abcdefgh"), desk.item("t"), desk.promised("z")), (LINE, POINTS, ("drawn", "abcdefgh", "t")))
+        self.assertEqual((desk.item("abcdefgh"), desk.item("t"), desk.promised("z")),
+                         (LINE, POINTS, ("drawn", "abcdefgh", "t")))
         for value in POOL:
             if not (isinstance(value, str) and value in ("t", "abcdefgh")):
                 self.assertEqual(told_by(error_of(lambda: desk.item(value))), (UnknownName, value))
@@ -513,7 +528,8 @@ class ClassTest(unittest.TestCase):
 
     def test_no_other_operators(self):
         desk = Desk(2)
-        for call in (lambda: iter(desk), lambda: desk + desk, lambda: desk < desk, lambda: desk["a"], lambda: ~desk, lambda: desk | desk):
+        for call in (lambda: iter(desk), lambda: desk + desk, lambda: desk < desk, lambda: desk["a"], lambda: ~desk,
+                     lambda: desk | desk):
             self.assertEqual(error_of(call).__class__, TypeError)
 
     def test_nothing_is_shared(self):
@@ -550,11 +566,13 @@ class ErrorsTest(unittest.TestCase):
         Wrong(with_row(lambda desk, *told: desk.keep(*told)), ("b", LINE), (name, item)).check(self)
         Wrong(with_row(lambda desk, *told: desk.broken_by(*told)), ("b", LINE), (name, item)).check(self)
         Wrong(with_row(lambda desk, *told: desk.promise(*told)), ("p", ("round", "a", "r")), (name, promise)).check(self)
-        Wrong(with_row(lambda desk, *told: desk.turn(*told)), ((0, 2),), ((InvalidOperation, lambda value: is_things(value, 4)),)).check(self)
+        Wrong(with_row(lambda desk, *told: desk.turn(*told)), ((0, 2),),
+              ((InvalidOperation, lambda value: is_things(value, 4)),)).check(self)
         Wrong(with_row(lambda desk, **told: desk.undo(**told)), (1,), (times,), ("times",)).check(self)
         Wrong(with_row(lambda desk, **told: desk.redo(**told)), (0,), (times,), ("times",)).check(self)
         for call in (lambda desk, value: desk.item(value), lambda desk, value: desk.drop(value)):
-            Wrong(with_row(call), ("a",), ((UnknownName, lambda value: isinstance(value, str) and value in ("a", "r")),)).check(self)
+            Wrong(with_row(call), ("a",), ((UnknownName, lambda value: isinstance(value, str) and value in ("a", "r")),
+                                           )).check(self)
 
     def test_names(self):
         desk = Desk(4)
@@ -568,7 +586,8 @@ class ErrorsTest(unittest.TestCase):
 
     def test_items(self):
         desk = Desk(4)
-        for item in (PLANE, System.free(3), Table(3, ()), curve(5, 2), "+-0", "+-+0+", "+-+x", "", None, 4, ("+-+0",), LINE.rounds, Desk(4),
+        for item in (PLANE, System.free(3), Table(3, ()), curve(5, 2), "+-0", "+-+0+", "+-+x", "", None, 4, ("+-+0",),
+                     LINE.rounds, Desk(4),
                      Web(4, ()), Program(LINE, 0, 1), [LINE], True):
             for call in (lambda: desk.keep("a", item), lambda: desk.broken_by("a", item)):
                 self.assertEqual(error_of(call).__class__, InvalidOperation)
@@ -576,14 +595,22 @@ class ErrorsTest(unittest.TestCase):
 
     def test_promises(self):
         desk = Desk(4)
-        wrong = ((), ("open",), ("open", "a", "b"), ["open", "a"], ("opens", "a"), ("open", "A"), ("open", None), ("round", "a"), ("round", "a", "r", "s"),
-                 ("round", ("a",), "r"), ("cut", "a", 1), ("view", "a", ""), ("upright", "r"), ("opposite", "a", "b", "c"), ("drawn", "a", LINE),
-                 ("hull", "a", (0, 2)), ("hull", "a", (2, 0), 1), ("hull", "a", [0, 2], 1), ("hull", "a", (0, 4), 1), ("hull", "a", (0, 2), 4),
-                 ("hull", "a", (0, 2), -1), ("hull", "a", (0, 2), True), ("hull", "a", (False,), 1), ("hull", "a", (0, 2), None),
-                 ("hull", "a", (0, 2), 1, 1), ("hull", (0, 2), "a", 1), ("best", "a", 0, 0, "best"), ("best", "a", 0, 4, "best"), ("best", "a", 4, 0, "best"),
-                 ("best", "a", -1, 0, "best"), ("best", "a", False, 1, "best"), ("best", "a", 0, True, "best"), ("best", "a", 0, 1, "ray"),
-                 ("best", "a", 0, 1, None), ("best", "a", 0, 1, ["best"]), ("best", "a", 0, 1), ("best", "a", 0, 1, "best", 0), (None, "a"),
-                 ("", "a"), (["open"], "a"), "open", None, {"open": "a"}, (LINE, "a"), ("member",), ("best", "a", "0", 1, "none"))
+        wrong = ((), ("open",), ("open", "a", "b"), ["open", "a"], ("opens", "a"), ("open", "A"), ("open", None),
+                 ("round", "a"), ("round", "a", "r", "s"),
+                 ("round", ("a",), "r"), ("cut", "a", 1), ("view", "a", ""), ("upright", "r"), ("opposite", "a", "b", "c"),
+                 ("drawn", "a", LINE),
+                 ("hull", "a", (0, 2)), ("hull", "a", (2, 0), 1), ("hull", "a", [0, 2], 1), ("hull", "a", (0, 4), 1),
+                 ("hull", "a", (0, 2), 4),
+                 ("hull", "a", (0, 2), -1), ("hull", "a", (0, 2), True), ("hull", "a", (False,), 1),
+                 ("hull", "a", (0, 2), None),
+                 ("hull", "a", (0, 2), 1, 1), ("hull", (0, 2), "a", 1), ("best", "a", 0, 0, "best"),
+                 ("best", "a", 0, 4, "best"), ("best", "a", 4, 0, "best"),
+                 ("best", "a", -1, 0, "best"), ("best", "a", False, 1, "best"), ("best", "a", 0, True, "best"),
+                 ("best", "a", 0, 1, "ray"),
+                 ("best", "a", 0, 1, None), ("best", "a", 0, 1, ["best"]), ("best", "a", 0, 1),
+                 ("best", "a", 0, 1, "best", 0), (None, "a"),
+                 ("", "a"), (["open"], "a"), "open", None, {"open": "a"}, (LINE, "a"), ("member",),
+                 ("best", "a", "0", 1, "none"))
         for promise in wrong:
             self.assertEqual(error_of(lambda: desk.promise("p", promise)).__class__, InvalidOperation, promise)
             self.assertFalse(is_promise(promise, 4))

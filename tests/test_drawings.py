@@ -8,7 +8,7 @@ from sidesigns.errors import InvalidOperation, InvalidSystem, InvalidTable, Refu
 from sidesigns.system.systems import System
 from sidesigns.table.tables import Table, determinant
 from support import POOL, Wrong, check_judged, curve, error_of, is_plain, opposite, told_by
-from worlds import (COLUMNED, COLUMNS, CURVES, FIVE, FOUR, LINE, MIXED, PLANE, SIX, TINY, bent, eight, lots, sign_in,
+from worlds import (COLUMNED, CURVES, FIVE, FOUR, LINE, MIXED, PLANE, SIX, TINY, bent, eight, lots, sign_in,
                     some_tables, times)
 
 SOME = TINY + FOUR + FIVE + COLUMNED[::9] + SIX + [LINE, PLANE, MIXED]
@@ -88,7 +88,8 @@ def is_plain_bar(system, value, known):
 class DrawnTest(unittest.TestCase):
     def test_is_drawn_by(self):
         """[15.1]."""
-        tables = [Table(3, rows) for rows in product(product((-1, 0, 1), repeat=3), repeat=2)][::7] + [Table(3, ()), Table(4, ()), Table(0, ())]
+        tables = [Table(3, rows) for rows in product(product((-1, 0, 1), repeat=3), repeat=2)][::7] + [Table(3, ()),
+                Table(4, ()), Table(0, ())]
         for system in TINY:
             for table in tables:
                 expected = table.many == system.many and table.rounds == system.rounds
@@ -150,7 +151,8 @@ class ComparisonsTest(unittest.TestCase):
             self.assertEqual(comparisons(system), plain_comparisons(system))
 
     def test_numbers(self):
-        self.assertEqual([len(comparisons(System.of_table(curve(7, rank)))) for rank in range(8)], [0, 0, 70, 210, 210, 70, 0, 0])
+        self.assertEqual([len(comparisons(System.of_table(curve(7, rank)))) for rank in range(8)],
+                         [0, 0, 70, 210, 210, 70, 0, 0])
         for system in SOME:
             if system.rank < 2 or system.many - system.rank < 2:
                 self.assertEqual(comparisons(system), ())
@@ -349,7 +351,8 @@ class ErrorsTest(unittest.TestCase):
         wrong = ((other, one), (one, one), [one], (list(one),), (one, None), ((word, pair),), ((word, pair, great, 1),), one,
                  (("equal", pair, great),), ((word, great, pair),), ((word, pair[::-1], great),), ((word, list(pair), great),),
                  ((word, ([0, 1], (2, 3)), great),), ((word, ((False, True), (2, 3)), great),), {one: 1}, "less", 0, False,
-                 ((word, ((0, 1), (2, 3), (0, 1)), great),), ((None, pair, great),), (([], pair, great),), (({}, pair, great),), (comparisons(PLANE)[0],), ((word, pair, pair),))
+                 ((word, ((0, 1), (2, 3), (0, 1)), great),), ((None, pair, great),), (([], pair, great),),
+                 (({}, pair, great),), (comparisons(PLANE)[0],), ((word, pair, pair),))
         for only in wrong:
             for call in (lambda: weights_or_bar(LINE, only=only), lambda: is_weights(LINE, None, only=only)):
                 self.assertEqual(error_of(call).__class__, InvalidOperation, only)

@@ -34,8 +34,10 @@ def moved(system, count):
     return found
 
 
-SIXES = moved(System.of_table(curve(6, 3)), 30) + moved(System.of_table(curve(6, 2)), 5) + moved(System.of_table(curve(6, 4)), 5)
-GREATER = moved(System.of_table(curve(7, 3)), 6) + moved(System.of_table(curve(8, 4)), 3) + moved(System.of_table(curve(9, 3)), 2)
+SIXES = moved(System.of_table(curve(6, 3)), 30) + moved(System.of_table(curve(6, 2)), 5) + moved(System.of_table(curve(6, 4)),
+                                                                                                 5)
+GREATER = moved(System.of_table(curve(7, 3)), 6) + moved(System.of_table(curve(8, 4)),
+                                                         3) + moved(System.of_table(curve(9, 3)), 2)
 MOVING = FOURS + FIVES[::3] + SIXES + GREATER
 # Systems that are not in general place, or cannot move.
 STILL = [system for system in TINY + FOUR + FIVE[::5] + CURVES + [PLANE, MIXED, bent(), eight()]
@@ -275,7 +277,8 @@ class ErrorsTest(unittest.TestCase):
 
     def test_numbers(self):
         for call, most in ((sign_tables, 5), (table_count, 6)):
-            kinds = ((InvalidNumber, lambda value: is_between(value, 0, most)), (InvalidNumber, lambda value: is_between(value, 0, 4)))
+            kinds = ((InvalidNumber, lambda value: is_between(value, 0, most)),
+                     (InvalidNumber, lambda value: is_between(value, 0, 4)))
             Wrong(call, (4, 2), kinds).check(self)
             for many in range(most + 1):
                 for rank in (-1, many + 1):

@@ -170,6 +170,17 @@ class LoopsTest(unittest.TestCase):
         for child in ast.iter_child_nodes(node):
             self.check_names(function, child, inner)
 
+    def test_no_inner_comprehension_reuses_a_name_of_its_function(self):
+        kinds = (ast.ListComp, ast.DictComp, ast.SetComp, ast.GeneratorExp)
+        for _, node in ALL:
+            found = [one for one in ast.walk(node) if isinstance(one, kinds)]
+            within = {part for one in found for part in ast.walk(one)}
+            assigned = {one.id for one in ast.walk(node) if isinstance(one, ast.Name) and isinstance(one.ctx, ast.Store)
+                        and one not in within}
+            for inner in [part for one in found for part in ast.walk(one) if part is not one and isinstance(part, kinds)]:
+                own = {part.id for one in inner.generators for part in ast.walk(one.target) if isinstance(part, ast.Name)}
+                self.assertFalse(own & assigned, node.name)
+
     def test_every_function_is_used_or_of_the_interface(self):
         told = {name for names in FUNCTIONS.values() for name in names}
         told |= {name for names in (*METHODS.values(), *PROPERTIES.values(), *OPERATORS.values()) for name in names}

@@ -10,7 +10,7 @@ from sidesigns.errors import InvalidNumber, InvalidOperation, InvalidSystem, Ref
 from sidesigns.system.judging import signs_paper
 from sidesigns.system.systems import System
 from sidesigns.table.tables import Table
-from support import Wrong, among, check_judged, curve, error_of, is_between, is_things, told_by
+from support import Wrong, check_judged, curve, error_of, is_between, is_things, told_by
 from worlds import COLUMNED, CURVES, FIVE, FOUR, LINE, MIXED, PLANE, TINY, all_things, lots, plain_views
 
 RANK_TWO = [system for system in TINY + FOUR + FIVE + COLUMNED[::5] + CURVES + [LINE, MIXED] if system.rank == 2]
@@ -267,7 +267,8 @@ class AlternatingTest(unittest.TestCase):
     def test_cuts_of_even_lots(self):
         for many in range(1, 9):
             for rank in range(1, many + 1):
-                found = {tuple(at for at, sign in enumerate(row) if sign == "0") for row in alternating(many, rank).cuts if "-" not in row}
+                found = {tuple(at for at, sign in enumerate(row) if sign == "0") for row in alternating(many,
+                        rank).cuts if "-" not in row}
                 self.assertEqual(tuple(sorted(found)), even_lots(many, rank - 1))
 
     def test_numbers_of_even_lots(self):
@@ -320,12 +321,17 @@ class ErrorsTest(unittest.TestCase):
                 self.assertEqual(told_by(error_of(lambda: ring_of(system))), (Refused, ("rank", system.rank)))
 
     def test_wrong_rings(self):
-        wrong = ((), (((0, "+"),),), (((0, "+"),), ()), ((), ((0, "+"),)), (((0, "+"),), ((0, "+"),)), (((0, "+"), (1, "+")), ((1, "+"),)),
+        wrong = ((), (((0, "+"),),), (((0, "+"),), ()), ((), ((0, "+"),)), (((0, "+"),), ((0, "+"),)),
+                 (((0, "+"), (1, "+")), ((1, "+"),)),
                  (((0, "-"),), ((1, "+"),)), (((1, "+"),), ((0, "+"),)), (((0, "0"),), ((1, "+"),)), (((0, "+"),), ((4, "+"),)),
-                 (((1, "+"), (0, "+")), ((2, "+"),)), (((0, "+"),), ((2, "+"), (1, "+"))), (((0, "+"), (3, "+"), (2, "+")), ((1, "+"),)),
-                 (((0, "+"), (2, "+"), (2, "-")), ((1, "+"),)), [((0, "+"),), ((1, "+"),)], ([(0, "+")], ((1, "+"),)), (([0, "+"],), ((1, "+"),)),
-                 (((0, "+"),), ((True, "+"),)), (((False, "+"),), ((1, "+"),)), (((0, "+", "+"),), ((1, "+"),)), (((0,),), ((1, "+"),)),
-                 (((0, "+"),), ((-1, "+"),)), (((0, "+-"),), ((1, "+"),)), (((0, ""),), ((1, "+"),)), (((0, None),), ((1, "+"),)))
+                 (((1, "+"), (0, "+")), ((2, "+"),)), (((0, "+"),), ((2, "+"), (1, "+"))),
+                 (((0, "+"), (3, "+"), (2, "+")), ((1, "+"),)),
+                 (((0, "+"), (2, "+"), (2, "-")), ((1, "+"),)), [((0, "+"),), ((1, "+"),)], ([(0, "+")], ((1, "+"),)),
+                 (([0, "+"],), ((1, "+"),)),
+                 (((0, "+"),), ((True, "+"),)), (((False, "+"),), ((1, "+"),)), (((0, "+", "+"),), ((1, "+"),)),
+                 (((0,),), ((1, "+"),)),
+                 (((0, "+"),), ((-1, "+"),)), (((0, "+-"),), ((1, "+"),)), (((0, ""),), ((1, "+"),)),
+                 (((0, None),), ((1, "+"),)))
         for ring in wrong:
             self.assertIs(is_ring(4, ring), False)
             for call in (lambda: system_of_ring(4, ring), lambda: does_balance(4, ring, None), lambda: ring_faces(4, ring)):

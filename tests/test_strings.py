@@ -17,12 +17,16 @@ from support import POOL, curve, error_of, lots_of_rows, rows_of, small_tables, 
 from worlds import CURVES, FIVE, FOUR, LINE, MIXED, PLANE, TINY, bent, eight, strings
 
 MOST = 10 ** 60 - 1
-LOTS = [lot for many in range(3) for lot in lots_of_rows(many, range(4))] + [Lot(9), Lot(9, ("+" * 9, "0" * 9)), Lot(7, tuple(rows_of(7))),
+LOTS = [lot for many in range(3) for lot in lots_of_rows(many, range(4))] + [Lot(9), Lot(9, ("+" * 9, "0" * 9)),
+                                                                             Lot(7, tuple(rows_of(7))),
                                                                            Lot(0, ("",))]
-TABLES = [table for many, height in ((0, 0), (0, 3), (1, 0), (1, 2), (2, 1), (2, 2), (3, 1)) for table in small_tables(many, height, -1, 1)]
-TABLES += [Table(2, ((MOST, -MOST), (0, 10 ** 59))), Table(0, ((),) * 9), Table(9, ((1, -20, 300, 0, -1, 7, 10, 100, -1000),) * 9), curve(6, 4)]
+TABLES = [table for many, height in ((0, 0), (0, 3), (1, 0), (1, 2), (2, 1), (2, 2), (3, 1)) for table in small_tables(many,
+        height, -1, 1)]
+TABLES += [Table(2, ((MOST, -MOST), (0, 10 ** 59))), Table(0, ((),) * 9),
+           Table(9, ((1, -20, 300, 0, -1, 7, 10, 100, -1000),) * 9), curve(6, 4)]
 SYSTEMS = TINY + FOUR + FIVE[::9] + CURVES + [LINE, MIXED, PLANE, bent(), eight()]
-WEBS = [Web(places, ways) for places in range(4) for size in range(3) for ways in product(product(range(places), repeat=2), repeat=size)]
+WEBS = [Web(places, ways) for places in range(4) for size in range(3) for ways in product(product(range(places), repeat=2),
+                                                                                          repeat=size)]
 WEBS += [Web(8, ((7, 0), (3, 3)) * 4 + ((0, 7),)), Web(8, ())]
 
 
@@ -85,13 +89,20 @@ class WrongLinesTest(unittest.TestCase):
                 self.check(value, 0)
 
     def test_first_lines(self):
-        for line in ("", " ", "lot", "lot ", " lot 3", "lot 3 ", "lot  3", "lot 3 3", "lot3", "Lot 3", "LOT 3", "lots 3", "lot 10", "lot -1",
-                     "lot 03", "lot +3", "lot -0", "lot x", "lot 3.0", "lot 1e0", "table", "table 10", "table 00", "table 2 2", "tables 2",
-                     "table -0", "table 9 ", "web", "web 9", "web -1", "web 08", "web 3 ", "web 3 0-1", "system", "system 2", "system 2 1",
-                     "system 2 1 ", "system 2 1  ++", "system 2 1 ++ ", "system 02 1 ++", "system 2 01 ++", "system 2 3 ++", "system 2 -1 ++",
-                     "system 10 0 +", "system -1 0 +", "system 2 1 +", "system 2 1 +++", "system 2 1 -+", "system 2 1 00", "system 2 1 +x",
-                     "system 2 1 0-", "system 0 0", "system 0 0 -", "system 0 0 0", "desk 3", "program 3", "x", "+-0", "3", "lot\t3", "lot 3\r",
-                     "lot 9" + "9" * 59, "lot 3" + "0" * 60, "lot " + "9" * 2000, "system 4 2 ++0+-+", "system " + "9" * 100 + " 2 +"):
+        for line in ("", " ", "lot", "lot ", " lot 3", "lot 3 ", "lot  3", "lot 3 3", "lot3", "Lot 3", "LOT 3", "lots 3",
+                     "lot 10", "lot -1",
+                     "lot 03", "lot +3", "lot -0", "lot x", "lot 3.0", "lot 1e0", "table", "table 10", "table 00",
+                     "table 2 2", "tables 2",
+                     "table -0", "table 9 ", "web", "web 9", "web -1", "web 08", "web 3 ", "web 3 0-1", "system", "system 2",
+                     "system 2 1",
+                     "system 2 1 ", "system 2 1  ++", "system 2 1 ++ ", "system 02 1 ++", "system 2 01 ++", "system 2 3 ++",
+                     "system 2 -1 ++",
+                     "system 10 0 +", "system -1 0 +", "system 2 1 +", "system 2 1 +++", "system 2 1 -+", "system 2 1 00",
+                     "system 2 1 +x",
+                     "system 2 1 0-", "system 0 0", "system 0 0 -", "system 0 0 0", "desk 3", "program 3", "x", "+-0", "3",
+                     "lot\t3", "lot 3\r",
+                     "lot 9" + "9" * 59, "lot 3" + "0" * 60, "lot " + "9" * 2000, "system 4 2 ++0+-+",
+                     "system " + "9" * 100 + " 2 +"):
             for behind in ("", "\n", "\n+-0", "\n1 2\nx", "\n\n\n"):
                 self.check(line + behind, 0)
 
@@ -99,11 +110,14 @@ class WrongLinesTest(unittest.TestCase):
         """A wrong line at each place, other wrong ones behind it."""
         cases = (("lot 3", ["+-0", "000", "+-0", "---", "0+0"], ["+-", "+-0+", "", "+-x", " +-0", "+-0 ", "+ -0", "111"]),
                  ("lot 0", ["", "", ""], ["+", " ", "0"]),
-                 ("table 2", ["1 2", "-30 0", "0 0", "7 -1"], ["1", "1 2 3", "", "1  2", " 1 2", "1 2 ", "01 2", "1 -0", "+1 2", "1 x", "1,2", "1 2.0",
-                                                              "--1 2", "1 -", "- 1", "1 -01", "1 0" + "1" * 60, "1 1" + "0" * 60, "-1" + "0" * 60 + " 1"]),
+                 ("table 2", ["1 2", "-30 0", "0 0", "7 -1"],
+                  ["1", "1 2 3", "", "1  2", " 1 2", "1 2 ", "01 2", "1 -0", "+1 2", "1 x", "1,2", "1 2.0",
+                                                              "--1 2", "1 -", "- 1", "1 -01", "1 0" + "1" * 60,
+                   "1 1" + "0" * 60, "-1" + "0" * 60 + " 1"]),
                  ("table 1", ["1", "0", "-1"], ["", " ", "1 1", "00", "-", "-0"]),
                  ("table 0", ["", ""], ["0", " ", "1"]),
-                 ("web 3", ["0 1", "2 2", "1 0", "0 1"], ["0", "0 1 2", "", "0 3", "-1 0", "0  1", "0 1 ", " 0 1", "00 1", "+0 1", "0-1", "x 1", "0 -0",
+                 ("web 3", ["0 1", "2 2", "1 0", "0 1"],
+                  ["0", "0 1 2", "", "0 3", "-1 0", "0  1", "0 1 ", " 0 1", "00 1", "+0 1", "0-1", "x 1", "0 -0",
                                                          "0 " + "9" * 60, "0 " + "9" * 61]),
                  ("web 0", [], ["0 0", "", " "]))
         for head, lines, wrong in cases:

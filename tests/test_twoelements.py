@@ -30,9 +30,12 @@ def picked(many, height, step):
     return (many, tuple(tuple((at * at + row * (at + step) + at * step) % 5 % 2 for at in range(many)) for row in range(height)))
 
 
-GREAT = [picked(many, height, step) for many, height in ((6, 3), (7, 4), (8, 4), (9, 4), (9, 5), (9, 9), (9, 1)) for step in range(6)]
-BARRED = [(7, SEVEN), (7, OTHER_SEVEN), (8, tuple(row + (row[0],) for row in SEVEN)), (9, tuple((0,) + row + (0,) for row in SEVEN)),
-          (8, tuple((0,) + row for row in OTHER_SEVEN) + ((1,) * 8,)), (9, tuple(row + (0, 0) for row in SEVEN) + ((0,) * 7 + (1, 1),)),
+GREAT = [picked(many, height, step) for many, height in ((6, 3), (7, 4), (8, 4), (9, 4), (9, 5), (9, 9),
+                                                         (9, 1)) for step in range(6)]
+BARRED = [(7, SEVEN), (7, OTHER_SEVEN), (8, tuple(row + (row[0],) for row in SEVEN)),
+          (9, tuple((0,) + row + (0,) for row in SEVEN)),
+          (8, tuple((0,) + row for row in OTHER_SEVEN) + ((1,) * 8,)),
+          (9, tuple(row + (0, 0) for row in SEVEN) + ((0,) * 7 + (1, 1),)),
           (7, SEVEN + (tuple(one ^ other for one, other in zip(SEVEN[0], SEVEN[1])),)), (7, SEVEN[::-1]),
           (8, ((1, 0, 0, 0, 0, 1, 1, 1), (0, 1, 0, 0, 1, 0, 1, 1), (0, 0, 1, 0, 1, 1, 0, 1), (0, 0, 0, 1, 1, 1, 1, 0)))]
 
@@ -43,8 +46,10 @@ def webbed(web):
                                  for place in range(web.places)))
 
 
-WEBBED = [webbed(web) for web in (Web(4, ((0, 1), (0, 2), (0, 3), (1, 2), (1, 3), (2, 3))), Web(3, ((0, 1),) * 4 + ((1, 2),) * 5),
-                                  Web(6, tuple(product(range(3), range(3, 6)))), Web(8, tuple((at, at + 1) for at in range(7)) + ((7, 0), (3, 3))),
+WEBBED = [webbed(web) for web in (Web(4, ((0, 1), (0, 2), (0, 3), (1, 2), (1, 3), (2, 3))),
+                                  Web(3, ((0, 1),) * 4 + ((1, 2),) * 5),
+                                  Web(6, tuple(product(range(3), range(3, 6)))),
+                                  Web(8, tuple((at, at + 1) for at in range(7)) + ((7, 0), (3, 3))),
                                   Web(5, ((0, 1), (0, 2), (0, 3), (0, 4), (1, 2), (1, 3), (1, 4), (2, 3), (2, 4))))]
 
 
@@ -100,7 +105,8 @@ def is_link(value, rounds, cuts):
     for lot in value:
         if not isinstance(lot, tuple) or not all(is_plain(thing) for thing in lot):
             return False
-    return value[0] in rounds and value[1] in cuts and value[2] == tuple(sorted(set(value[0]) & set(value[1]))) and len(value[2]) == 2
+    one, other, pair = value
+    return one in rounds and other in cuts and len(pair) == 2 and pair == tuple(sorted(set(one) & set(other)))
 
 
 def is_odd_lot(many, rows, value):
@@ -180,7 +186,8 @@ class RoundsTest(unittest.TestCase):
     def test_as_many_rows_as_things(self):
         for many in range(10):
             rows = tuple(tuple(1 if at >= row else 0 for at in range(many)) for row in range(many))
-            self.assertEqual(reduced(many, rows), tuple(tuple(1 if at == row else 0 for at in range(many)) for row in range(many)))
+            expected = tuple(tuple(1 if at == row else 0 for at in range(many)) for row in range(many))
+            self.assertEqual(reduced(many, rows), expected)
             self.assertEqual((rounds_over_two(many, rows), signing_count(many, rows)), ((), 2 ** many))
 
 
@@ -229,7 +236,8 @@ class SignedTest(unittest.TestCase):
     def check_that_all_come_of_one(self, many, right):
         if len(right[0]) + many > 6:
             return
-        found = {tuple(tuple(one * row_sign * sign for one, sign in zip(row, signs)) for row, row_sign in zip(right[0], row_signs))
+        found = {tuple(tuple(one * row_sign * sign for one, sign in zip(row, signs)) for row,
+                       row_sign in zip(right[0], row_signs))
                  for row_signs in product((1, -1), repeat=len(right[0])) for signs in product((1, -1), repeat=many)}
         self.assertEqual(found, set(right))
 
@@ -266,7 +274,8 @@ class SignedTest(unittest.TestCase):
     def test_common_things_that_are_no_links(self):
         """A round and a cut with none or four common things are none, even beside an odd lot."""
         _, links = signed_paper(7, SEVEN)
-        others = [(one, other, tuple(sorted(set(one) & set(other)))) for one in plain_rounds(7, SEVEN) for other in plain_cuts(7, SEVEN)]
+        others = [(one, other, tuple(sorted(set(one) & set(other)))) for one in plain_rounds(7,
+                SEVEN) for other in plain_cuts(7, SEVEN)]
         others = [link for link in others if len(link[2]) != 2]
         self.assertEqual({len(link[2]) for link in others}, {0, 4})
         for link in others:
@@ -289,7 +298,8 @@ class SignedTest(unittest.TestCase):
     def test_no_other_value(self):
         for many, rows in ((7, SEVEN), (3, ((1, 1, 0), (1, 0, 1))), (2, ()), (0, ()), (4, ((1, 1, 1, 1), (0, 1, 1, 0)))):
             paper = signed_paper(many, rows)
-            check_judged(self, lambda value: is_signed_paper(many, rows, value), [paper], lambda value: is_right(many, rows, value))
+            check_judged(self, lambda value: is_signed_paper(many, rows, value), [paper],
+                         lambda value: is_right(many, rows, value))
 
 
 def all_links(many, rows):
@@ -300,7 +310,8 @@ def all_links(many, rows):
 def own_orders():
     """Some orders of the things that lead SEVEN to itself."""
     columns = [tuple(row[at] for row in SEVEN) for at in range(7)]
-    changes = [((0, 1, 0), (0, 0, 1), (1, 0, 0)), ((1, 1, 0), (0, 1, 0), (0, 0, 1)), ((1, 0, 0), (0, 1, 1), (0, 0, 1)), ((0, 0, 1), (0, 1, 0), (1, 0, 0))]
+    changes = [((0, 1, 0), (0, 0, 1), (1, 0, 0)), ((1, 1, 0), (0, 1, 0), (0, 0, 1)), ((1, 0, 0), (0, 1, 1), (0, 0, 1)),
+               ((0, 0, 1), (0, 1, 0), (1, 0, 0))]
     for change in changes:
         led = [tuple(sum(one * other for one, other in zip(row, column)) % 2 for row in change) for column in columns]
         yield tuple(columns.index(column) for column in led)
@@ -316,14 +327,18 @@ class ErrorsTest(unittest.TestCase):
             return isinstance(value, tuple) and len(value) <= 9 and all(
                 isinstance(row, tuple) and len(row) == many and all(is_between(one, 0, 1) for one in row) for row in value)
         kinds = ((InvalidNumber, lambda value: is_between(value, 0, 9)), (InvalidTable, lambda value: is_rows(value, 3)))
-        for call in (reduced, rounds_over_two, cuts_over_two, signed_paper, signing_count, lambda many, rows: is_signed_paper(many, rows, 0)):
+        for call in (reduced, rounds_over_two, cuts_over_two, signed_paper, signing_count, lambda many,
+                     rows: is_signed_paper(many, rows, 0)):
             Wrong(call, (3, ((1, 1, 0), (0, 1, 1))), kinds).check(self)
 
     def test_limits(self):
-        calls = (reduced, rounds_over_two, cuts_over_two, signed_paper, signing_count, lambda many, rows: is_signed_paper(many, rows, 0))
+        calls = (reduced, rounds_over_two, cuts_over_two, signed_paper, signing_count, lambda many,
+                 rows: is_signed_paper(many, rows, 0))
         for call in calls:
-            for many, rows in ((2, ((0, 1),) * 10), (2, ((0,),)), (2, ((0, 1, 1),)), (2, ((0, 2),)), (2, ((0, -1),)), (2, ((0, True),)),
-                               (2, ((False, 1),)), (2, ([0, 1],)), (2, [(0, 1)]), (0, ((0,),)), (2, ("01",)), (2, None), (2, (None,))):
+            for many, rows in ((2, ((0, 1),) * 10), (2, ((0,),)), (2, ((0, 1, 1),)), (2, ((0, 2),)), (2, ((0, -1),)),
+                               (2, ((0, True),)),
+                               (2, ((False, 1),)), (2, ([0, 1],)), (2, [(0, 1)]), (0, ((0,),)), (2, ("01",)), (2, None),
+                               (2, (None,))):
                 self.assertEqual(error_of(lambda: call(many, rows)).__class__, InvalidTable)
             for many in (-1, 10, True, None, "2", 10 ** 60):
                 self.assertEqual(told_by(error_of(lambda: call(many, None))), (InvalidNumber, many))

@@ -232,7 +232,8 @@ class PapersTest(unittest.TestCase):
         web = Web(2, ((0, 1), (0, 1)))
         self.assertEqual((web.ringless_paper(), web.around_paper()), (("levels", (0, 1)), ("cut", "++")))
         web = Web(1, ((0, 0),))
-        self.assertEqual((web.ringless_paper(), web.around_paper(), web.way_paper(0)), (("round", "+"), ("amounts", (1,)), ("round", "+")))
+        self.assertEqual((web.ringless_paper(), web.around_paper(), web.way_paper(0)),
+                         (("round", "+"), ("amounts", (1,)), ("round", "+")))
 
     def test_without_places_or_ways(self):
         for places in range(9):
@@ -264,7 +265,8 @@ class CountTest(unittest.TestCase):
         for web in SMALL + FOUR_PLACES + GREAT[::5]:
             rounds, cuts = plain_rounds(web), plain_cuts(web)
             lots = all_things(len(web.ways))
-            self.assertEqual(web.ringless_count(), len([lot for lot in lots if not plus_rows(turned(row, lot) for row in rounds)]))
+            self.assertEqual(web.ringless_count(), len([lot for lot in lots if not plus_rows(turned(row,
+                                                                                                    lot) for row in rounds)]))
             self.assertEqual(web.around_count(), len([lot for lot in lots if not plus_rows(turned(row, lot) for row in cuts)]))
 
     def test_without_a_way(self):
@@ -287,7 +289,8 @@ class ClassTest(unittest.TestCase):
     def test_wrong_arguments(self):
         def is_ways(value, places):
             return isinstance(value, tuple) and len(value) <= 9 and all(
-                isinstance(way, tuple) and len(way) == 2 and all(is_between(place, 0, places - 1) for place in way) for way in value)
+                isinstance(way, tuple) and len(way) == 2 and all(is_between(place, 0,
+                                                                            places - 1) for place in way) for way in value)
         kinds = ((InvalidWeb, lambda value: is_between(value, 0, 8)), (InvalidWeb, lambda value: is_ways(value, 3)))
         Wrong(Web, (3, ((0, 1), (2, 2))), kinds).check(self)
         web = Web(3, ((0, 1), (1, 2), (2, 0)))
@@ -297,8 +300,10 @@ class ClassTest(unittest.TestCase):
         Wrong(lambda way: web.is_way_paper(way, None), (0,), (is_way,)).check(self)
 
     def test_limits(self):
-        for places, ways in ((9, ()), (-1, ()), (10 ** 60, ()), (2, ((0, 1),) * 10), (2, ((0, 2),)), (2, ((-1, 0),)), (0, ((0, 0),)),
-                             (2, ((0,),)), (2, ((0, 1, 1),)), (2, ([0, 1],)), (2, [(0, 1)]), (2, ((0, True),)), (2, ("01",)), (2, (0, 1))):
+        for places, ways in ((9, ()), (-1, ()), (10 ** 60, ()), (2, ((0, 1),) * 10), (2, ((0, 2),)), (2, ((-1, 0),)),
+                             (0, ((0, 0),)),
+                             (2, ((0,),)), (2, ((0, 1, 1),)), (2, ([0, 1],)), (2, [(0, 1)]), (2, ((0, True),)), (2, ("01",)),
+                             (2, (0, 1))):
             self.assertEqual(error_of(lambda: Web(places, ways)).__class__, InvalidWeb)
         self.assertEqual(len(Web(8, ((7, 7),) * 9)), 9)
 
@@ -327,7 +332,8 @@ class ClassTest(unittest.TestCase):
 
     def test_no_other_operators(self):
         web = Web(2, ((0, 1),))
-        for call in (lambda: iter(web), lambda: web + web, lambda: web < web, lambda: web[0], lambda: ~web, lambda: (0, 1) in web):
+        for call in (lambda: iter(web), lambda: web + web, lambda: web < web, lambda: web[0], lambda: ~web,
+                     lambda: (0, 1) in web):
             self.assertEqual(error_of(call).__class__, TypeError)
 
     def test_nothing_changes(self):

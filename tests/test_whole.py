@@ -5,19 +5,21 @@ import unittest
 from itertools import permutations, product
 
 from sidesigns.best.programs import Program
-from sidesigns.draw.drawings import comparisons, is_bar, is_drawn_by, is_weights, points_of, weights_or_bar
-from sidesigns.draw.rings import alternating, does_balance, even_lots, is_gap_even, is_ring, ring_faces, ring_of, system_of_ring
 from sidesigns.desk.desk import Desk
+from sidesigns.draw.drawings import comparisons, is_bar, is_drawn_by, is_weights, points_of, weights_or_bar
+from sidesigns.draw.rings import (alternating, does_balance, even_lots, is_gap_even, is_ring, ring_faces, ring_of,
+                                  system_of_ring)
 from sidesigns.errors import InvalidNumber, InvalidOperation, InvalidOrder, InvalidRow, InvalidSystem, InvalidTable
-from sidesigns.hull.hulls import (convex_lots, corners, faces, hull, hull_paper, is_hull_paper, is_parted, parted)
+from sidesigns.hull.hulls import convex_lots, corners, faces, hull, hull_paper, is_hull_paper, is_parted, parted
 from sidesigns.more.putting import by_steps, is_line_paper, line_paper, lines_of, put_in, signs_of_thing
 from sidesigns.order.activities import active_counts, best_base, best_bases, inner, is_best, outer, region_of, row_active
 from sidesigns.place.general import can_turn, is_turn_paper, simplexes, turn_paper, turned_base
-from sidesigns.region.regions import (bounded_count, bounded_regions, flat_sums, is_steps, parting_things, region_count, region_web, steps,
-                                      system_of_web, two_numbers, walls)
+from sidesigns.region.regions import (bounded_count, bounded_regions, flat_sums, is_steps, parting_things, region_count,
+                                      region_web, steps, system_of_web, two_numbers, walls)
 from sidesigns.rows.rows import Lot, laid_over
 from sidesigns.system.forms import form_paper, is_form_paper, led, led_row, least_form, own_count, parts_of
-from sidesigns.system.judging import is_regions_paper, is_signs_paper, is_views_paper, system_of_regions, system_of_signs, system_of_views
+from sidesigns.system.judging import (is_regions_paper, is_signs_paper, is_views_paper, system_of_regions,
+                                      system_of_signs, system_of_views)
 from sidesigns.system.paintings import in_table, is_in_table, is_painted, is_pair_paper, painted, paintings
 from sidesigns.system.rounds import is_rounds_paper, rounds_paper
 from sidesigns.system.systems import System
@@ -105,16 +107,22 @@ class ErrorsTest(unittest.TestCase):
         """[0.4], for calls in which all arguments are wrong at once."""
         cases = (
             (lambda value: can_turn(value, value), InvalidSystem), (lambda value: inner(value, value, value), InvalidSystem),
-            (lambda value: inner(LINE, value, value), InvalidOrder), (lambda value: inner(LINE, (0, 1, 2, 3), value), InvalidOperation),
-            (lambda value: row_active(LINE, (0, 1, 2, 3), value), InvalidRow), (lambda value: is_drawn_by(value, value), InvalidSystem),
+            (lambda value: inner(LINE, value, value), InvalidOrder),
+                 (lambda value: inner(LINE, (0, 1, 2, 3), value), InvalidOperation),
+            (lambda value: row_active(LINE, (0, 1, 2, 3), value), InvalidRow),
+                 (lambda value: is_drawn_by(value, value), InvalidSystem),
             (lambda value: is_drawn_by(LINE, value), InvalidTable), (lambda value: system_of_ring(value, value), InvalidNumber),
-            (lambda value: system_of_ring(4, value), InvalidOperation), (lambda value: does_balance(4, ring_of(LINE), value), InvalidOperation),
+            (lambda value: system_of_ring(4, value), InvalidOperation),
+                 (lambda value: does_balance(4, ring_of(LINE), value), InvalidOperation),
             (lambda value: signed_paper(value, value), InvalidNumber), (lambda value: signed_paper(3, value), InvalidTable),
-            (lambda value: Program(value, value, value), InvalidSystem), (lambda value: Program(LINE, value, value), InvalidNumber),
+            (lambda value: Program(value, value, value), InvalidSystem),
+                 (lambda value: Program(LINE, value, value), InvalidNumber),
             (lambda value: hull(value, value), InvalidSystem), (lambda value: led(LINE, value, value), InvalidOrder),
-            (lambda value: Table(value, value), InvalidNumber), (lambda value: weights_or_bar(value, only=value), InvalidSystem))
+            (lambda value: Table(value, value), InvalidNumber),
+                 (lambda value: weights_or_bar(value, only=value), InvalidSystem))
         for call, kind in cases:
-            for value in (True, -1, 10 ** 99, "x", [0], {0: 1}, ("a", 0), (True,), Desk(4), RING, TABLE.upright_table(), 10 ** 60):
+            for value in (True, -1, 10 ** 99, "x", [0], {0: 1}, ("a", 0), (True,), Desk(4), RING, TABLE.upright_table(),
+                          10 ** 60):
                 if not (kind is InvalidTable and isinstance(value, Table)):
                     self.assertEqual(error_of(lambda: call(value)).__class__, kind, value)
 
@@ -151,7 +159,8 @@ class ChangesTest(unittest.TestCase):
             other = led(system, order, things)
             self.assertEqual((region_count(other), bounded_count(other)), (region_count(system), bounded_count(system)))
             self.assertEqual(two_numbers(other), two_numbers(system))
-            self.assertEqual(flat_sums(other), dict(sorted((things_led(order, lot), one) for lot, one in flat_sums(system).items())))
+            self.assertEqual(flat_sums(other), dict(sorted((things_led(order, lot), one) for lot,
+                                                           one in flat_sums(system).items())))
             for region in system.regions().rows[::5]:
                 self.assertEqual(walls(other, led_row(region, order, things)), things_led(order, walls(system, region)))
             for thing in range(system.many):
@@ -184,7 +193,8 @@ class ChangesTest(unittest.TestCase):
             self.assertEqual(put_in(other, signs), led(put_in(system, told), order + (system.many,), things))
 
     def test_webs(self):
-        for places, ways in ((3, ((0, 1), (1, 2), (2, 0), (0, 0))), (4, ((0, 1), (1, 2), (2, 0), (2, 3), (0, 1))), (2, ((0, 1), (1, 0), (0, 1)))):
+        for places, ways in ((3, ((0, 1), (1, 2), (2, 0), (0, 0))), (4, ((0, 1), (1, 2), (2, 0), (2, 3), (0, 1))),
+                             (2, ((0, 1), (1, 0), (0, 1)))):
             web = Web(places, ways)
             for order in list(permutations(range(len(ways))))[::3]:
                 for things in all_things(len(ways))[::3]:
@@ -199,7 +209,8 @@ class ChangesTest(unittest.TestCase):
             led_order = tuple(names.index(thing) for thing in order)
             self.assertEqual(active_counts(other, led_order), active_counts(system, order))
             if order and led_order[0] not in things:
-                expected = {led_row(region, names, things): things_led(names, base) for region, base in best_bases(system, order).items()}
+                expected = {led_row(region, names, things): things_led(names, base) for region,
+                            base in best_bases(system, order).items()}
                 self.assertEqual(best_bases(other, led_order), expected)
 
     def test_drawings(self):
@@ -212,7 +223,8 @@ class ChangesTest(unittest.TestCase):
             self.assertEqual(list(comparisons(other)), sorted(expected))
             if system.rank <= 2 or system.many - system.rank <= 2:
                 table = points_of(system)
-                rows = tuple(tuple(-row[thing] if at in things else row[thing] for at, thing in enumerate(order)) for row in table.rows)
+                rows = tuple(tuple(-row[thing] if at in things else row[thing] for at,
+                                   thing in enumerate(order)) for row in table.rows)
                 self.assertTrue(is_drawn_by(other, Table(system.many, rows)))
 
     def test_general_place(self):
@@ -222,7 +234,8 @@ class ChangesTest(unittest.TestCase):
                 self.assertEqual(list(simplexes(other)), sorted(led_row(region, order, things) for region in simplexes(system)))
                 for base in system.bases:
                     if can_turn(system, base):
-                        self.assertEqual(turned_base(other, things_led(order, base)), led(turned_base(system, base), order, things))
+                        self.assertEqual(turned_base(other, things_led(order, base)),
+                                         led(turned_base(system, base), order, things))
 
     def test_desks_and_strings(self):
         for system, order, things in CHANGED[::7]:
@@ -249,12 +262,14 @@ class OppositesTest(unittest.TestCase):
 
     def test_numbers(self):
         for system in TINY + FOUR + FIVE[::5]:
-            self.assertEqual(two_numbers(~system), {(j, i): count for (i, j), count in sorted(two_numbers(system).items(), key=lambda one: one[0][::-1])})
+            self.assertEqual(two_numbers(~system), {(j, i): count for (i, j),
+                                                    count in sorted(two_numbers(system).items(), key=lambda one: one[0][::-1])})
             self.assertEqual(parts_of(~system), parts_of(system))
             for base in system.bases[::3]:
                 order = tuple(range(system.many))
                 others = tuple(thing for thing in order if thing not in base)
-                self.assertEqual((inner(~system, order, others), outer(~system, order, others)), (outer(system, order, base), inner(system, order, base)))
+                self.assertEqual((inner(~system, order, others), outer(~system, order, others)),
+                                 (outer(system, order, base), inner(system, order, base)))
 
     def test_programs(self):
         for system in TINY[::2] + FOUR[::11]:
@@ -265,11 +280,14 @@ class OppositesTest(unittest.TestCase):
                     self.assertIs(program.answer()[0] == "best", program.opposite().answer()[0] == "best")
 
     def test_webs_and_two_elements(self):
-        for places, ways in ((3, ((0, 1), (1, 2), (2, 0), (0, 0))), (4, ((0, 1), (1, 2), (2, 0), (2, 3), (0, 1))), (2, ((0, 1), (1, 0), (0, 1)))):
+        for places, ways in ((3, ((0, 1), (1, 2), (2, 0), (0, 0))), (4, ((0, 1), (1, 2), (2, 0), (2, 3), (0, 1))),
+                             (2, ((0, 1), (1, 0), (0, 1)))):
             web = Web(places, ways)
             rows = tuple(tuple(((first == place) + (last == place)) % 2 for first, last in ways) for place in range(places))
-            self.assertEqual(rounds_over_two(len(ways), rows), tuple(sorted({tuple(sorted(has(row))) for row in web.system.rounds})))
-            self.assertEqual(cuts_over_two(len(ways), rows), tuple(sorted({tuple(sorted(has(row))) for row in web.system.cuts})))
+            self.assertEqual(rounds_over_two(len(ways), rows),
+                             tuple(sorted({tuple(sorted(has(row))) for row in web.system.rounds})))
+            self.assertEqual(cuts_over_two(len(ways), rows),
+                             tuple(sorted({tuple(sorted(has(row))) for row in web.system.cuts})))
             system = System.of_table(Table(len(ways), signed_paper(len(ways), rows)[1]))
             self.assertIn(web.system, [system.turned_at(things) for things in all_things(len(ways))])
             if not web.system.loops:
@@ -279,8 +297,11 @@ class OppositesTest(unittest.TestCase):
 
     def test_two_elements(self):
         """The rows of 0 and 1 that are even with all rows tell the opposite, with as many signings."""
-        for many, rows in ((3, ((1, 1, 0), (1, 0, 1))), (7, SEVEN), (5, ((1, 1, 0, 1, 0), (0, 1, 1, 1, 1))), (4, ()), (4, ((1, 0, 0, 0),))):
-            even = tuple(row for row in product((0, 1), repeat=many) if all(sum(a * b for a, b in zip(row, one)) % 2 == 0 for one in rows))
+        for many, rows in ((3, ((1, 1, 0), (1, 0, 1))), (7, SEVEN), (5, ((1, 1, 0, 1, 0), (0, 1, 1, 1, 1))), (4, ()),
+                           (4, ((1, 0, 0, 0),))):
+            even = tuple(row for row in product((0, 1),
+                                                repeat=many) if all(sum(a * b for a,
+                                                                        b in zip(row, one)) % 2 == 0 for one in rows))
             other = reduced(many, ())
             for row in even:
                 other = reduced(many, other + (row,))
@@ -321,7 +342,8 @@ class LessTest(unittest.TestCase):
             for thing in range(system.many):
                 less, press = system.left_out((thing,)), system.shrunk((thing,))
                 if thing not in system.loops and thing not in alike:
-                    self.assertEqual(region_count(system), region_count(less) + region_count(press) if thing not in system.pillars
+                    self.assertEqual(region_count(system),
+                                     region_count(less) + region_count(press) if thing not in system.pillars
                                      else 2 * region_count(less))
                 if thing not in system.loops and thing not in system.pillars:
                     counts = dict(two_numbers(less))
@@ -340,7 +362,8 @@ class LessTest(unittest.TestCase):
                     self.assertEqual(tuple(rest[at] for at in hull(less, lot)), tuple(one for one in whole if one != thing))
 
     def test_webs(self):
-        for places, ways in ((3, ((0, 1), (1, 2), (2, 0), (0, 0))), (4, ((0, 1), (1, 2), (2, 0), (2, 3), (0, 1))), (2, ((0, 1), (1, 0), (0, 1)))):
+        for places, ways in ((3, ((0, 1), (1, 2), (2, 0), (0, 0))), (4, ((0, 1), (1, 2), (2, 0), (2, 3), (0, 1))),
+                             (2, ((0, 1), (1, 0), (0, 1)))):
             web = Web(places, ways)
             for way, (first, last) in enumerate(ways):
                 rest = ways[:way] + ways[way + 1:]
@@ -389,14 +412,18 @@ class StayTest(unittest.TestCase):
         ring = ring_of(LINE)
         order = (0, 1, 2, 3)
         return [
-            lambda: (list(LINE.views()), list(LINE.regions()), LINE.flats()), lambda: list(convex_lots(PLANE)), lambda: faces(PLANE),
+            lambda: (list(LINE.views()), list(LINE.regions()), LINE.flats()), lambda: list(convex_lots(PLANE)),
+                lambda: faces(PLANE),
             lambda: painted(LINE, "rsao"), lambda: in_table(TABLE, "rsso"), lambda: form_paper(LINE, LINE.turned_at((1,))),
-            lambda: (two_numbers(LINE), flat_sums(LINE), region_web(LINE)), lambda: steps(LINE, "++++", "----"), lambda: parting_things(LINE, "++++", "++--"),
-            lambda: system_of_web(region_web(LINE)), lambda: put_in(LINE, signs), lambda: line_paper(LINE, signs), lambda: turn_paper(LINE, (0, 2)),
+            lambda: (two_numbers(LINE), flat_sums(LINE), region_web(LINE)), lambda: steps(LINE, "++++", "----"),
+                lambda: parting_things(LINE, "++++", "++--"),
+            lambda: system_of_web(region_web(LINE)), lambda: put_in(LINE, signs), lambda: line_paper(LINE, signs),
+                lambda: turn_paper(LINE, (0, 2)),
             lambda: simplexes(LINE), lambda: (RING.pieces(), RING.way_paper(1), RING.ringless_paper(), RING.around_paper()),
             lambda: (signed_paper(7, SEVEN), reduced(7, SEVEN)), lambda: (best_bases(LINE, order), active_counts(LINE, order)),
             lambda: (best_base(LINE, order, "++--"), region_of(LINE, order, (0, 3)), row_active(LINE, order, "++++")),
-            lambda: (comparisons(LINE), weights_or_bar(LINE), points_of(LINE)), lambda: (ring, ring_faces(4, ring), even_lots(5, 2)),
+            lambda: (comparisons(LINE), weights_or_bar(LINE), points_of(LINE)),
+                lambda: (ring, ring_faces(4, ring), even_lots(5, 2)),
             lambda: (write_value(LINE), read_value(write_value(RING))), lambda: Program(LINE, 0, 3).answer(),
             lambda: (system_of_signs(4, 2, "++++++"), system_of_views(LINE.views()), system_of_regions(LINE.regions()))]
 
@@ -406,11 +433,13 @@ class StayTest(unittest.TestCase):
         for call in self.calls():
             self.assertEqual(call(), call())
         self.assertEqual([(one.rounds.rows, one.cuts.rows, one.signs, one.bases) for one in (LINE, PLANE, DRAWN)], before)
-        self.assertEqual((RING.places, RING.ways, TABLE.rows), (4, ((0, 1), (1, 2), (2, 0), (2, 3)), ((1, 0, 3, -1), (0, 1, -1, 1))))
+        self.assertEqual((RING.places, RING.ways, TABLE.rows),
+                         (4, ((0, 1), (1, 2), (2, 0), (2, 3)), ((1, 0, 3, -1), (0, 1, -1, 1))))
 
     def test_returned_dicts_are_new(self):
         order = (0, 1, 2, 3)
-        for call in (lambda: two_numbers(LINE), lambda: flat_sums(LINE), lambda: best_bases(LINE, order), lambda: active_counts(LINE, order),
+        for call in (lambda: two_numbers(LINE), lambda: flat_sums(LINE), lambda: best_bases(LINE, order),
+                     lambda: active_counts(LINE, order),
                      lambda: by_steps(LINE, ()), lambda: signs_of_thing(LINE, 3), lambda: weights_or_bar(LINE)[1]):
             first = call()
             told = dict(first)

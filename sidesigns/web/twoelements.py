@@ -27,7 +27,7 @@ def _is_row_over_two(value, many):
 
 def _reduced_masks(many, rows):
     """The rows of the reduced table, as masks."""
-    left = [mask_of_things([thing for thing in range(many) if row[thing] == 1]) for row in rows]
+    left = [mask_of_things([at for at, one in enumerate(row) if one == 1]) for row in rows]
     masks = []
     for thing in range(many):
         heads = [mask for mask in left if mask >> thing & 1 == 1]
